@@ -1,0 +1,1 @@
+"""Stoodthere: the grammar behind nested sentences."""

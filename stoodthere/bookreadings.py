@@ -1,0 +1,118 @@
+"""Reading the texts of books."""
+
+from stoodthere.basics import need
+from stoodthere.bookkinds import MOST_DEPTH, MOST_KIND, MOST_NUMBERS
+from stoodthere.errors import InvalidText
+from stoodthere.treekinds import is_word
+
+DIGITS = "0123456789"
+
+
+def number_in(field, most):
+    """The number that a field tells, or None if it tells none of at most most."""
+    if field == "" or not all([sign in DIGITS for sign in field]):
+        return None
+    if len(field) > len(str(most)) or (field[0] == "0" and field != "0"):
+        return None
+    number = int(field)
+    return number if number <= most else None
+
+
+def numbers_in(text):
+    """The tuple of the numbers between the brackets of a table's row, or None."""
+    if text == "":
+        return ()
+    numbers = tuple([number_in(field, MOST_KIND) for field in text.split(",")])
+    return None if None in numbers or len(numbers) > MOST_NUMBERS else numbers
+
+
+def group_row_in(field):
+    """The row of groups that a field tells, or None."""
+    word, sign, rest = field.partition("=")
+    number = number_in(rest, MOST_KIND)
+    return (word, number) if is_word(word) and sign == "=" and number is not None else None
+
+
+def table_row_in(field):
+    """The row of a table that a field tells, or None."""
+    word, bracket, rest = field.partition("(")
+    inside, signs, last = rest.partition(")=")
+    numbers = numbers_in(inside)
+    number = number_in(last, MOST_KIND)
+    if not is_word(word) or bracket == "" or signs == "" or numbers is None or number is None:
+        return None
+    return (word, numbers, number)
+
+
+def row_in(field, word):
+    """The row that a field tells, for "groups" or for "table", or None."""
+    return group_row_in(field) if word == "groups" else table_row_in(field)
+
+
+class BookReader:
+    """Reads the fields of one text, one after the other."""
+
+    def __init__(self, text):
+        self.fields = text.split(" ")
+        self.at = 0
+
+    def refuse(self):
+        """Tells that the next field cannot stand there, or that one is missing."""
+        raise InvalidText(0, self.at)
+
+    def is_at_end(self):
+        """Whether all fields are read."""
+        return self.at == len(self.fields)
+
+    def seen(self):
+        """The next field, which is not read yet; there has to be one."""
+        if self.is_at_end():
+            self.refuse()
+        return self.fields[self.at]
+
+    def read_number(self, most):
+        """Reads a field that is a number of at most most."""
+        number = number_in(self.seen(), most)
+        if number is None:
+            self.refuse()
+        self.at += 1
+        return number
+
+    def read_rows(self, word):
+        """Reads the rows of groups or of a table, and the "else" behind them."""
+        rows = []
+        while self.seen() != "else":
+            row = row_in(self.seen(), word)
+            if row is None or (rows and not rows[-1][:-1] < row[:-1]):
+                self.refuse()
+            rows.append(row)
+            self.at += 1
+        self.at += 1
+        return tuple(rows)
+
+    def read_simple(self):
+        """Reads a simple one."""
+        word = self.seen()
+        if word not in ("depth", "groups", "table"):
+            self.refuse()
+        self.at += 1
+        if word == "depth":
+            return ("depth", self.read_number(MOST_DEPTH))
+        rows = self.read_rows(word)
+        return (word, rows, self.read_number(MOST_KIND))
+
+    def read_all(self):
+        """Reads the whole text; returns the book."""
+        simples = [self.read_simple()]
+        while not self.is_at_end():
+            if self.seen() != "+":
+                self.refuse()
+            self.at += 1
+            simples.append(self.read_simple())
+        return tuple(simples)
+
+
+def read_book(text):
+    """Returns the book with this text."""
+    need(isinstance(text, str), "text")
+    return BookReader(text).read_all()

@@ -1,0 +1,141 @@
+"""Trim, driven, plain and fair grammars."""
+
+from stoodthere.basics import need
+from stoodthere.grammarkinds import is_grammar
+from stoodthere.kindmakers import KindMaker
+from stoodthere.leasttrees import least_trees
+from stoodthere.orders import order_key
+
+
+def making_names(rules):
+    """A dict that has the names that make a tree."""
+    made = {}
+    many_before = -1
+    while len(made) > many_before:
+        many_before = len(made)
+        for result, _, parts in rules:
+            if all([part in made for part in parts]):
+                made[result] = True
+    return made
+
+
+def live_names(grammar):
+    """A dict that has the names that make a tree and stand in the lot."""
+    _, starts, rules = grammar
+    made = making_names(rules)
+    below = {name: [] for name in made}
+    for result, _, parts in rules:
+        if all([part in made for part in parts]):
+            below[result].extend(parts)
+    waiting = [start for start in starts if start in made]
+    live = {}
+    while waiting:
+        name = waiting.pop()
+        if name not in live:
+            live[name] = True
+            waiting.extend(below[name])
+    return live
+
+
+def repeated_rule(grammar):
+    """The number of the first rule with word and parts of an earlier one, or None."""
+    known = {}
+    for k, (_, word, parts) in enumerate(grammar[2]):
+        if (word, parts) in known:
+            return k
+        known[(word, parts)] = True
+    return None
+
+
+def is_driven(grammar):
+    """Returns whether grammar is driven."""
+    return repeated_rule(grammar) is None
+
+
+def is_trim(grammar):
+    """Returns whether grammar is trim."""
+    return len(live_names(grammar)) == grammar[0]
+
+
+def is_plain(grammar):
+    """Returns whether grammar is plain."""
+    if not is_trim(grammar) or not is_driven(grammar):
+        return False
+    keys = [order_key(tree) for tree in least_trees(grammar)]
+    return keys == sorted(keys)
+
+
+def kinds_of_names(maker, grammar):
+    """A list with the kind of the least tree of each name, None if there is none."""
+    return [None if tree is None else maker.kind_in(tree) for tree in least_trees(grammar)]
+
+
+def name_kinds(book, grammar):
+    """Returns a tuple with the kind of the least tree of each name, None if there is none."""
+    need(is_grammar(grammar), "grammar")
+    return tuple(kinds_of_names(KindMaker(book), grammar))
+
+
+def unlike_rule(maker, grammar, kinds):
+    """The number of the first rule that makes a tree of another kind than its result has, or None."""
+    for k, (result, word, parts) in enumerate(grammar[2]):
+        if maker.kind_by(word, [kinds[part] for part in parts]) != kinds[result]:
+            return k
+    return None
+
+
+def unturned_rule(grammar, kinds):
+    """The number of the first rule that differs from an earlier one as no turned grammar lets it, or None."""
+    known = {}
+    for k, (result, word, parts) in enumerate(grammar[2]):
+        for at, part in enumerate(parts):
+            # Rules that agree in this key differ in the part left out alone, as no rule stands twice.
+            key = (result, word, parts[:at], parts[at + 1:], kinds[part])
+            if key in known:
+                return k
+            known[key] = True
+    return None
+
+
+def second_start(grammar, kinds):
+    """The number of the first start of the kind of an earlier one, or None."""
+    known = {}
+    for k, start in enumerate(grammar[1]):
+        if kinds[start] in known:
+            return k
+        known[kinds[start]] = True
+    return None
+
+
+def first_breach(book, grammar):
+    """The first pair that tells why grammar is not fair for book, or None."""
+    live = live_names(grammar)
+    for name in range(grammar[0]):
+        if name not in live:
+            return ("trim", name)
+    repeated = repeated_rule(grammar)
+    if repeated is not None:
+        return ("driven", repeated)
+    maker = KindMaker(book)
+    kinds = kinds_of_names(maker, grammar)
+    finds = (
+        ("kinded", unlike_rule(maker, grammar, kinds)),
+        ("turned", unturned_rule(grammar, kinds)),
+        ("single", second_start(grammar, kinds)),
+    )
+    for word, found in finds:
+        if found is not None:
+            return (word, found)
+    return None
+
+
+def breach_of(book, grammar):
+    """Returns None if grammar is fair for book, else a pair that tells why it is not."""
+    need(is_grammar(grammar), "grammar")
+    return first_breach(book, grammar)
+
+
+def is_fair(book, grammar):
+    """Returns whether grammar is fair for book."""
+    need(is_grammar(grammar), "grammar")
+    return first_breach(book, grammar) is None

@@ -1,0 +1,293 @@
+"""The definitions of the document once more, written as plainly as can be, over nested trees.
+
+A nested tree is a pair (word, children), children a tuple of nested trees. Nothing here
+imports the package.
+"""
+
+
+def nested(tree):
+    """The nested tree of a tuple of symbols; entries may also be holes or stubs."""
+    whole, end = nested_from(tree, 0)
+    assert end == len(tree)
+    return whole
+
+
+def nested_from(tree, at):
+    word, many = tree[at]
+    at += 1
+    children = []
+    for _ in range(many):
+        child, at = nested_from(tree, at)
+        children.append(child)
+    return (word, tuple(children)), at
+
+
+def flat(whole):
+    word, children = whole
+    row = ((word, len(children)),)
+    for child in children:
+        row += flat(child)
+    return row
+
+
+def nodes(whole):
+    """All pieces of a nested tree in the sequence of their nodes, as flat trees."""
+    row = [flat(whole)]
+    for child in whole[1]:
+        row += nodes(child)
+    return row
+
+
+def paths(whole, path=()):
+    """For each node, in sequence, the way to it: which child is taken each time."""
+    row = [path]
+    for k, child in enumerate(whole[1]):
+        row += paths(child, path + (k,))
+    return row
+
+
+def replaced(whole, path, piece):
+    if not path:
+        return piece
+    word, children = whole
+    k = path[0]
+    return (word, children[:k] + (replaced(children[k], path[1:], piece),) + children[k + 1:])
+
+
+def with_other(tree, node, piece):
+    whole = nested(tree)
+    return flat(replaced(whole, paths(whole)[node], nested(piece)))
+
+
+def key(tree):
+    return (len(tree), tree)
+
+
+def ordered(trees):
+    return tuple(sorted(set(trees), key=key))
+
+
+def all_pieces(trees):
+    return ordered(piece for tree in trees for piece in nodes(nested(tree)))
+
+
+def levels(whole):
+    return 1 + max([levels(child) for child in whole[1]], default=0)
+
+
+def text(whole):
+    word, children = whole
+    if not children:
+        return word
+    return word + "(" + ",".join(text(child) for child in children) + ")"
+
+
+def leaves(whole):
+    word, children = whole
+    if not children:
+        return () if word == "." else (word,)
+    return tuple(leaf for child in children for leaf in leaves(child))
+
+
+def shared(one, two):
+    if one[0] != two[0] or len(one[1]) != len(two[1]):
+        return 0
+    return 1 + sum(shared(left, right) for left, right in zip(one[1], two[1]))
+
+
+def does_fit(pattern, whole):
+    if pattern == ("?", ()):
+        return True
+    if pattern[0] != whole[0] or len(pattern[1]) != len(whole[1]):
+        return False
+    return all(does_fit(left, right) for left, right in zip(pattern[1], whole[1]))
+
+
+def cut_whole(whole, depth):
+    if depth == 0:
+        return ("_", ())
+    return (whole[0], tuple(cut_whole(child, depth - 1) for child in whole[1]))
+
+
+def table_number(simple, whole):
+    numbers = tuple(table_number(simple, child) for child in whole[1])
+    for word, row_numbers, number in simple[1]:
+        if (word, row_numbers) == (whole[0], numbers):
+            return number
+    return simple[2]
+
+
+def kind(book, tree):
+    whole = nested(tree)
+    entries = []
+    for simple in book:
+        if simple[0] == "depth":
+            entries.append(flat(cut_whole(whole, simple[1])))
+        elif simple[0] == "groups":
+            entries.append(dict(simple[1]).get(whole[0], simple[2]))
+        else:
+            entries.append(table_number(simple, whole))
+    return tuple(entries)
+
+
+def place(tree, node):
+    whole = nested(tree)
+    piece = nodes(whole)[node]
+    return (tree[:node], tree[node + len(piece):])
+
+
+def fourth(book, one, two, node, third, at):
+    """The fourth of an exchange, None if it is none."""
+    if node >= len(two) or place(one, node) != place(two, node):
+        return None
+    first, second = nodes(nested(one))[node], nodes(nested(two))[node]
+    if kind(book, first) != kind(book, second) or nodes(nested(third))[at] != first:
+        return None
+    return with_other(third, at, second)
+
+
+class Lot:
+    """The exchanges of a growing lot, by the definition, with what is told kept by place and by piece."""
+
+    def __init__(self, book, trees):
+        self.book = book
+        self.trees = set(trees)
+
+    def exchanges(self):
+        """All (one, two, node, third, place, fourth)."""
+        stands = {}
+        holders = {}
+        for tree in sorted(self.trees, key=key):
+            for node, piece in enumerate(nodes(nested(tree))):
+                stands.setdefault(place(tree, node), []).append((tree, node, piece))
+                holders.setdefault(piece, []).append((tree, node))
+        for row in stands.values():
+            for one, node, piece in row:
+                for two, _, other in row:
+                    if kind(self.book, piece) != kind(self.book, other):
+                        continue
+                    for third, at in holders[piece]:
+                        yield (one, two, node, third, at, with_other(third, at, other))
+
+    def fourths(self):
+        return {steps[5] for steps in self.exchanges()} - self.trees
+
+    def closed_to(self, most):
+        """The lot, grown by fourths of at most most symbols until there are no more."""
+        while True:
+            new = {tree for tree in self.fourths() if len(tree) <= most}
+            if not new:
+                return ordered(self.trees)
+            self.trees |= new
+
+
+class Classes:
+    """Pieces of sentences in classes, which are a list of sets."""
+
+    def __init__(self, book, sentences):
+        self.book = book
+        self.sentences = sentences
+        self.pieces = all_pieces(sentences)
+        self.classes = [{piece} for piece in self.pieces]
+
+    def class_of(self, piece):
+        return next(row for row in self.classes if piece in row)
+
+    def joined(self, one, two):
+        return two in self.class_of(one)
+
+    def parts(self, piece):
+        return [flat(child) for child in nested(piece)[1]]
+
+    def ends(self, join):
+        """What a join joins, or None if it may not be made."""
+        word, one, two, k = join
+        if one not in self.pieces or two not in self.pieces:
+            return None
+        if word == "root":
+            both = one in self.sentences and two in self.sentences
+            return (one, two) if both and kind(self.book, one) == kind(self.book, two) else None
+        if one[0] != two[0]:
+            return None
+        pairs = list(zip(self.parts(one), self.parts(two)))
+        if word == "up":
+            return (one, two) if all(self.joined(*pair) for pair in pairs) else None
+        if k >= len(pairs) or not self.joined(one, two):
+            return None
+        if not all(self.joined(*pair) for at, pair in enumerate(pairs) if at != k):
+            return None
+        return pairs[k] if kind(self.book, pairs[k][0]) == kind(self.book, pairs[k][1]) else None
+
+    def fault(self, join):
+        ends = self.ends(join)
+        if ends is None:
+            return join[0]
+        return "joined" if self.joined(*ends) else None
+
+    def make(self, join):
+        one, two = (self.class_of(end) for end in self.ends(join))
+        self.classes = [row for row in self.classes if row not in (one, two)] + [one | two]
+
+    def possible(self):
+        """All joins that can be made now."""
+        joins = []
+        for one in self.pieces:
+            for two in self.pieces:
+                joins += [("root", one, two, 0), ("up", one, two, 0)]
+                joins += [("down", one, two, k) for k in range(one[0][1])]
+        return [join for join in joins if self.fault(join) is None]
+
+    def told(self):
+        rows = [ordered(row) for row in self.classes]
+        return tuple(sorted(rows, key=lambda row: key(row[0])))
+
+    def makes(self, whole):
+        """The numbers, among told(), of the classes of which a nested tree is."""
+        below = [self.makes(child) for child in whole[1]]
+        told = self.told()
+        found = set()
+        for number, row in enumerate(told):
+            for piece in row:
+                if piece[0] != (whole[0], len(whole[1])):
+                    continue
+                numbers = [next(k for k, other in enumerate(told) if part in other) for part in self.parts(piece)]
+                if all(k in made for k, made in zip(numbers, below)):
+                    found.add(number)
+        return found
+
+    def leads_to(self, tree):
+        told = self.told()
+        return any(set(told[k]) & set(self.sentences) for k in self.makes(nested(tree)))
+
+
+def saturated(book, sentences, draw=None):
+    """Joins, one after the other, behind which none can be made; drawn ones if draw is given."""
+    classes = Classes(book, sentences)
+    joins = []
+    while True:
+        possible = classes.possible()
+        if not possible:
+            return tuple(joins), classes
+        join = possible[0] if draw is None else draw.one_of(possible)
+        joins.append(join)
+        classes.make(join)
+
+
+def names_of(grammar, whole):
+    """The names that make a nested tree."""
+    below = [names_of(grammar, child) for child in whole[1]]
+    found = set()
+    for result, word, parts in grammar[2]:
+        if word == whole[0] and len(parts) == len(below) and all(part in made for part, made in zip(parts, below)):
+            found.add(result)
+    return found
+
+
+def least_by_names(grammar, trees):
+    """The least tree of each name among trees, which are in order and all there are up to some size."""
+    least = [None] * grammar[0]
+    for tree in trees:
+        for name in names_of(grammar, nested(tree)):
+            if least[name] is None:
+                least[name] = tree
+    return tuple(least)
