@@ -28,18 +28,20 @@ def numbers_in(text):
 
 def group_row_in(field):
     """The row of groups that a field tells, or None."""
-    word, sign, rest = field.partition("=")
+    # Without the sign there is nothing behind it, and so no number.
+    word, _, rest = field.partition("=")
     number = number_in(rest, MOST_KIND)
-    return (word, number) if is_word(word) and sign == "=" and number is not None else None
+    return (word, number) if is_word(word) and number is not None else None
 
 
 def table_row_in(field):
     """The row of a table that a field tells, or None."""
-    word, bracket, rest = field.partition("(")
-    inside, signs, last = rest.partition(")=")
+    # Without these signs there is nothing behind them, and so no last number.
+    word, _, rest = field.partition("(")
+    inside, _, last = rest.partition(")=")
     numbers = numbers_in(inside)
     number = number_in(last, MOST_KIND)
-    if not is_word(word) or bracket == "" or signs == "" or numbers is None or number is None:
+    if not is_word(word) or numbers is None or number is None:
         return None
     return (word, numbers, number)
 

@@ -8,8 +8,7 @@ from stoodthere.treekinds import is_tree
 
 def has_same_place(one, two, node):
     """Whether node is a node of two as it is of one, with the same place there."""
-    if node >= len(two):
-        return False
+    # No tree begins with a whole other one: with the same front, node is one of two.
     return one[:node] == two[:node] and one[end_of(one, node):] == two[end_of(two, node):]
 
 

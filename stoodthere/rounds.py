@@ -13,22 +13,19 @@ def pieces_by_stand(maker, trees):
     for tree in trees:
         kinds = maker.kinds_in(tree)
         for node, end in enumerate(ends_of(tree)):
-            stand = (tree[:node], tree[end:], kinds[node])
-            stands.setdefault(stand, {})[tree[node:end]] = (tree, node)
+            shows = stands.setdefault((tree[:node], tree[end:], kinds[node]), {})
+            shows[tree[node:end]] = (tree, node)
     return stands
 
 
 def swaps_in(maker, trees):
-    """For each piece a dict: for each other piece that it may be exchanged for, (one, two, node)."""
+    """For each piece a dict: for each piece that it may be exchanged for, itself too, (one, two, node)."""
     swaps = {}
     for shows in list(pieces_by_stand(maker, trees).values()):
-        if len(shows) == 1:
-            continue
         for piece, (one, node) in shows.items():
             others = swaps.setdefault(piece, {})
             for other, (two, _) in shows.items():
-                if other != piece:
-                    others[other] = (one, two, node)
+                others[other] = (one, two, node)
     return swaps
 
 
@@ -39,7 +36,7 @@ def fourths_to(maker, trees, most):
     fourths = {}
     for third in trees:
         for place, end in enumerate(ends_of(third)):
-            for other in swaps.get(third[place:end], {}):
+            for other in swaps[third[place:end]]:
                 if most is not None and len(third) - (end - place) + len(other) > most:
                     continue
                 fourth = third[:place] + other + third[end:]
@@ -84,7 +81,7 @@ def open_exchange(book, trees):
     present = {tree: True for tree in trees}
     for third in trees:
         for place, end in enumerate(ends_of(third)):
-            for other, (one, two, node) in swaps.get(third[place:end], {}).items():
+            for other, (one, two, node) in swaps[third[place:end]].items():
                 fourth = third[:place] + other + third[end:]
                 if fourth not in present:
                     return (one, two, node, third, place, fourth)

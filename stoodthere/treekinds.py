@@ -32,7 +32,7 @@ def is_symbol(thing):
 def is_hole(thing):
     """Whether thing is the entry of a hole."""
     # False equals 0, but an entry with it is no hole.
-    return isinstance(thing, tuple) and thing == HOLE and is_number(thing[1])
+    return thing == HOLE and is_number(thing[1])
 
 
 def fault_of(thing, may_have_holes):

@@ -185,7 +185,7 @@ class TestBookTexts(Checks, unittest.TestCase):
     def test_faults(self):
         faults = {
             0: ("", " ", "  ", "Depth 1", "depth1", "1", "+", "+ depth 1", " depth 1", "else 0", "depths 1", "a=1",
-                "group else 0", "\ndepth 1", "depth\t1", "groups=1"),
+                "group else 0", "groups=1"),
             1: ("depth", "depth ", "depth  1", "depth 61", "depth 100", "depth 01", "depth 00", "depth -1", "depth +1",
                 "depth a", "depth +", "depth 1.", "depth 060", "groups", "table", "groups ", "groups + depth 1",
                 "groups 0", "groups a", "groups a=", "groups =1", "groups a=100", "groups a=01", "groups a=1=2",
@@ -213,6 +213,24 @@ class TestBookTexts(Checks, unittest.TestCase):
         for at, texts in faults.items():
             for text in texts:
                 self.assert_unread(at, read_book, text)
+
+    def test_each_sign_as_a_number(self):
+        for sign in (chr(k) for k in range(33, 127) if k != 37):
+            if sign in "0123456789":
+                self.assert_same(read_book("depth " + sign), (("depth", int(sign)),))
+                self.assert_same(read_book("groups a=" + sign + " else 0"), (("groups", (("a", int(sign)),), 0),))
+            else:
+                self.assert_unread(1, read_book, "depth " + sign)
+                self.assert_unread(1, read_book, "depth 1" + sign)
+                self.assert_unread(1, read_book, "groups a=" + sign + " else 0")
+                self.assert_unread(1, read_book, "table a(" + sign + ")=1 else 0")
+                self.assert_unread(2, read_book, "groups else " + sign)
+
+    def test_long_numbers(self):
+        for digits in (3, 100, 3900):
+            for start in ("depth ", "groups a=", "table a()=", "table a(1)="):
+                self.assert_unread(1, read_book, start + "1" * digits)
+                self.assert_unread(1, read_book, start + "0" * digits)
 
     def test_many_simple_ones(self):
         text = " + ".join(["depth 1"] * 50)

@@ -36,9 +36,9 @@ class TestChains(Checks, unittest.TestCase):
         self.assert_same(told, tuple((("f", 1),) * k + A for k in range(9)))
 
     def test_long_chain(self):
-        chain = START + (("put", 0, 1, 0, 1, 2), ("put", 2, 1, 2, 1, 0)) * 700
+        chain = START + (("put", 0, 1, 0, 1, 2), ("put", 2, 1, 2, 1, 0)) * 300
         told = lets_chain(BOLD, GIVEN, chain)
-        self.assert_same(told[4:], (FB, FA) * 700)
+        self.assert_same(told[4:], (FB, FA) * 300)
 
     def test_shape(self):
         for thing in (None, True, 0, "", "given", (), [], [("given", A)], 10 ** 59):

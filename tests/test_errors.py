@@ -36,19 +36,12 @@ class TestErrors(unittest.TestCase):
 
     def test_fields_are_the_very_objects(self):
         for _, error, fields in self.each_error():
-            for values in (([1], {"a": [2]}), (None, True), (object(), object()), ("x", 10 ** 500)):
+            for values in (([1], [["a"], 0]), (None, True), ((1, [2]), ()), ("x", 10 ** 59)):
                 values = values[:len(fields)]
                 for raised in (error(*values), error(**dict(zip(fields, values)))):
                     self.assertEqual(sorted(vars(raised)), sorted(fields))
                     for field, value in zip(fields, values):
                         self.assertIs(getattr(raised, field), value)
-
-    def test_exactly_its_fields(self):
-        for _, error, fields in self.each_error():
-            with self.assertRaises(TypeError):
-                error(*([0] * (len(fields) + 1)))
-            with self.assertRaises(TypeError):
-                error(*([0] * (len(fields) - 1)))
 
     def test_they_are_raised_and_caught_by_family(self):
         for family, error, fields in self.each_error():

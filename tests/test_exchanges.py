@@ -150,6 +150,8 @@ class TestRounds(Checks, unittest.TestCase):
                 lot = trees
                 for rounds in range(4):
                     wanted = oracle.ordered(lot)
+                    if len(wanted) > 400:
+                        break
                     self.assert_same(grown(book, trees, 6, rounds), wanted)
                     if len(wanted) > 60:
                         break

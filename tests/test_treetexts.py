@@ -83,11 +83,14 @@ class TestReading(Checks, unittest.TestCase):
 
     def test_deep(self):
         self.assert_same(read_tree(shown(DEEPEST_TREE)), DEEPEST_TREE)
-        deep = "f(" * 1300 + "a" + ")" * 1300
-        self.assert_same(read_tree(deep), (("f", 1),) * 1300 + A)
+        deep = "f(" * 399 + "a" + ")" * 399
+        self.assert_same(read_tree(deep), (("f", 1),) * 399 + A)
         self.assert_unread(len(deep) - 1, read_tree, deep[:-1])
         self.assert_unread(len(deep), read_tree, deep + ")")
-        self.assert_unread(2600, read_tree, "f(" * 1300)
+        deeper = "f(" * 1300 + "a" + ")" * 1299
+        self.assert_unread(len(deeper), read_tree, deeper)
+        self.assert_unread(2600, read_tree, deeper[:2600])
+        self.assert_unread(2600, read_tree, deeper[:2600] + "," + deeper[2601:])
 
     def test_long_words(self):
         word = "abcdefgh-1234567"
