@@ -27,3 +27,8 @@ def need(holds, name):
     """Refuses the parameter with this name, unless it is as stated."""
     if not holds:
         raise NotUsable(name, -1)
+
+
+def with_last(row, value):
+    """The tuple of what row has, with value behind it if row does not have it."""
+    return row if value in row else row + (value,)

@@ -2,20 +2,8 @@
 
 from stoodthere.basics import need
 from stoodthere.bookkinds import MOST_DEPTH, MOST_KIND, MOST_NUMBERS
-from stoodthere.errors import InvalidText
+from stoodthere.fieldreaders import FieldReader, number_in
 from stoodthere.treekinds import is_word
-
-DIGITS = "0123456789"
-
-
-def number_in(field, most):
-    """The number that a field tells, or None if it tells none of at most most."""
-    if field == "" or not all([sign in DIGITS for sign in field]):
-        return None
-    if len(field) > len(str(most)) or (field[0] == "0" and field != "0"):
-        return None
-    number = int(field)
-    return number if number <= most else None
 
 
 def numbers_in(text):
@@ -51,34 +39,8 @@ def row_in(field, word):
     return group_row_in(field) if word == "groups" else table_row_in(field)
 
 
-class BookReader:
-    """Reads the fields of one text, one after the other."""
-
-    def __init__(self, text):
-        self.fields = text.split(" ")
-        self.at = 0
-
-    def refuse(self):
-        """Tells that the next field cannot stand there, or that one is missing."""
-        raise InvalidText(0, self.at)
-
-    def is_at_end(self):
-        """Whether all fields are read."""
-        return self.at == len(self.fields)
-
-    def seen(self):
-        """The next field, which is not read yet; there has to be one."""
-        if self.is_at_end():
-            self.refuse()
-        return self.fields[self.at]
-
-    def read_number(self, most):
-        """Reads a field that is a number of at most most."""
-        number = number_in(self.seen(), most)
-        if number is None:
-            self.refuse()
-        self.at += 1
-        return number
+class BookReader(FieldReader):
+    """Reads the fields of a book's text, one after the other."""
 
     def read_rows(self, word):
         """Reads the rows of groups or of a table, and the "else" behind them."""
@@ -107,9 +69,7 @@ class BookReader:
         """Reads the whole text; returns the book."""
         simples = [self.read_simple()]
         while not self.is_at_end():
-            if self.seen() != "+":
-                self.refuse()
-            self.at += 1
+            self.read_sign("+")
             simples.append(self.read_simple())
         return tuple(simples)
 
@@ -117,4 +77,4 @@ class BookReader:
 def read_book(text):
     """Returns the book with this text."""
     need(isinstance(text, str), "text")
-    return BookReader(text).read_all()
+    return BookReader(0, text).read_all()

@@ -139,3 +139,13 @@ def is_fair(book, grammar):
     """Returns whether grammar is fair for book."""
     need(is_grammar(grammar), "grammar")
     return first_breach(book, grammar) is None
+
+
+def is_driven_grammar(thing):
+    """Whether thing, which may be any value, is a driven grammar."""
+    return is_grammar(thing) and is_driven(thing)
+
+
+def is_fair_grammar(book, thing):
+    """Whether thing, which may be any value, is a grammar that is fair for book."""
+    return is_grammar(thing) and first_breach(book, thing) is None

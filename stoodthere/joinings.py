@@ -23,13 +23,19 @@ class Joining:
         self.tops = {self.number_by_piece[tree]: True for tree in sentences}
         self.part_rows = []
         self.kind_row = []
-        self.leaders = list(range(len(self.pieces)))
+        self.start_anew()
         maker = KindMaker(book)
         # The parts of a piece stand ahead of it, so their kinds are known by then.
         for piece in self.pieces:
             parts = [self.number_by_piece[part] for part in parts_of(piece)]
             self.part_rows.append(parts)
             self.kind_row.append(maker.kind_by(piece[0][0], [self.kind_row[part] for part in parts]))
+
+    def start_anew(self):
+        """Joins nothing yet."""
+        self.leaders = list(range(len(self.pieces)))
+        # For each join that was made, the pair of pieces that it joined.
+        self.ends = []
 
     def number_of_piece(self, thing):
         """The number of a piece, None if thing, which may be any value, is none."""
@@ -66,6 +72,11 @@ class Joining:
         ends = (self.part_rows[one][part], self.part_rows[two][part])
         return ends if self.kind_row[ends[0]] == self.kind_row[ends[1]] else None
 
+    def unite(self, one, two):
+        """Joins two pieces that are not joined yet."""
+        self.ends.append((one, two))
+        self.leaders[self.leader_of(one)] = self.leader_of(two)
+
     def make_join(self, thing):
         """Makes this join, which may be any value; returns None, or the word for what is wrong with it."""
         if not is_join_shape(thing):
@@ -80,7 +91,7 @@ class Joining:
             return word
         if self.are_joined(ends[0], ends[1]):
             return "joined"
-        self.leaders[self.leader_of(ends[0])] = self.leader_of(ends[1])
+        self.unite(ends[0], ends[1])
         return None
 
     def class_row(self):
@@ -94,3 +105,13 @@ class Joining:
         for piece, number in zip(self.pieces, self.class_row()):
             classes.setdefault(number, []).append(piece)
         return tuple([tuple(classes[number]) for number in classes])
+
+    def class_grammar(self):
+        """The grammar with these classes as names, for each piece a rule, and as starts the classes of sentences."""
+        classes = self.class_row()
+        rules = {}
+        for number, piece in enumerate(self.pieces):
+            parts = tuple([classes[part] for part in self.part_rows[number]])
+            rules[(classes[number], piece[0][0], parts)] = True
+        starts = tuple(sorted(set([classes[top] for top in self.tops])))
+        return (max(classes, default=-1) + 1, starts, tuple(sorted(rules)))

@@ -4,6 +4,8 @@ A nested tree is a pair (word, children), children a tuple of nested trees. Noth
 imports the package.
 """
 
+import itertools
+
 
 def nested(tree):
     """The nested tree of a tuple of symbols; entries may also be holes or stubs."""
@@ -291,3 +293,208 @@ def least_by_names(grammar, trees):
             if least[name] is None:
                 least[name] = tree
     return tuple(least)
+
+
+def live_names(grammar):
+    """The names that make a tree and stand in the lot: those that one start, going down such rules, comes to."""
+    made = set()
+    for _ in range(grammar[0]):
+        made |= {result for result, _, parts in grammar[2] if set(parts) <= made}
+    live = set(grammar[1]) & made
+    for _ in range(grammar[0]):
+        for result, _, parts in grammar[2]:
+            if result in live and set(parts) <= made:
+                live |= set(parts)
+    return live
+
+
+def renamed(grammar, kept):
+    """The grammar with these names alone, numbered in this sequence."""
+    _, starts, rules = grammar
+    number = {name: k for k, name in enumerate(kept)}
+    rules = [(number[result], word, tuple(number[part] for part in parts)) for result, word, parts in rules
+             if result in number and all(part in number for part in parts)]
+    return (len(kept), tuple(sorted(number[start] for start in starts if start in number)), tuple(sorted(rules)))
+
+
+def lot_among(grammar, trees):
+    """Those of trees that the lot of grammar has."""
+    return [tree for tree in trees if names_of(grammar, nested(tree)) & set(grammar[1])]
+
+
+def chain_trees(book, given, chain):
+    """The trees of the lines of a chain, each line read by its definition."""
+    trees = []
+    for line in chain:
+        if line[0] == "given":
+            assert line[1] in given
+            trees.append(line[1])
+            continue
+        _, base, node, one, at, two = line
+        assert max(base, one, two) < len(trees)
+        told = fourth(book, trees[one], trees[two], at, trees[base], node)
+        assert told is not None
+        trees.append(told)
+    return trees
+
+
+def way(ends, one, two, barred=()):
+    """The numbers of joins with these ends on a way from one piece to another, None if there is none."""
+    if one == two:
+        return ()
+    for k, pair in enumerate(ends):
+        if k in barred or one not in pair:
+            continue
+        other = pair[1] if pair[0] == one else pair[0]
+        rest = way(ends, other, two, barred + (k,))
+        if rest is not None:
+            return (k,) + rest
+    return None
+
+
+def found_grammar(book, sentences, trees):
+    """The found grammar, its names told by least trees among trees, which are in order."""
+    _, classes = saturated(book, sentences)
+    told = classes.told()
+    number = {piece: k for k, row in enumerate(told) for piece in row}
+    rules = {(number[piece], piece[0][0], tuple(number[part] for part in classes.parts(piece))) for piece in number}
+    grammar = (len(told), tuple(sorted({number[tree] for tree in sentences})), tuple(sorted(rules)))
+    least = least_by_names(grammar, trees)
+    return renamed(grammar, sorted(range(len(told)), key=lambda name: key(least[name])))
+
+
+def breach(book, grammar, trees):
+    """The list of [36], step by step; least trees are looked for among trees, which are in order."""
+    names, starts, rules = grammar
+    live = live_names(grammar)
+    for name in range(names):
+        if name not in live:
+            return ("trim", name)
+    for k, rule in enumerate(rules):
+        if any(rule[1:] == earlier[1:] for earlier in rules[:k]):
+            return ("driven", k)
+    least = least_by_names(grammar, trees)
+    if None in least:
+        return "too long"
+    kinds = [kind(book, tree) for tree in least]
+    for k, (result, word, parts) in enumerate(rules):
+        whole = ((word, len(parts)),) + tuple(symbol for part in parts for symbol in least[part])
+        if kind(book, whole) != kinds[result]:
+            return ("kinded", k)
+    for k, rule in enumerate(rules):
+        if any(differ_in_one(rule, earlier, kinds) for earlier in rules[:k]):
+            return ("turned", k)
+    for k, start in enumerate(starts):
+        if any(kinds[start] == kinds[earlier] for earlier in starts[:k]):
+            return ("single", k)
+    return None
+
+
+def differ_in_one(rule, other, kinds):
+    if rule[:2] != other[:2] or len(rule[2]) != len(other[2]):
+        return False
+    pairs = [(one, two) for one, two in zip(rule[2], other[2]) if one != two]
+    return len(pairs) == 1 and kinds[pairs[0][0]] == kinds[pairs[0][1]]
+
+
+def quick_grammar(joins, book, sentences):
+    """The grammar of the classes that these joins leave, for sentences with many pieces."""
+    classes = Classes(book, sentences)
+    for join in joins:
+        classes.make(join)
+    number = {piece: k for k, row in enumerate(classes.classes) for piece in row}
+    rules = {(number[piece], piece[0][0], tuple(number[part] for part in classes.parts(piece))) for piece in number}
+    return (len(classes.classes), tuple(sorted({number[tree] for tree in sentences})), tuple(sorted(rules)))
+
+
+def sizes_of(grammar):
+    """How many symbols the least tree of each name has, None if it makes none."""
+    sizes = [None] * grammar[0]
+    for _ in range(grammar[0]):
+        for result, _, parts in grammar[2]:
+            if all(sizes[part] is not None for part in parts):
+                size = 1 + sum(sizes[part] for part in parts)
+                if sizes[result] is None or size < sizes[result]:
+                    sizes[result] = size
+    return sizes
+
+
+def drawn_from(grammar, draw, most):
+    """A drawn tree of the lot with at most most symbols, None if the drawn start has none."""
+    sizes = sizes_of(grammar)
+
+    def make(name, left):
+        rules = [(word, parts) for result, word, parts in grammar[2] if result == name
+                 and all(sizes[part] is not None for part in parts) and 1 + sum(sizes[part] for part in parts) <= left]
+        word, parts = draw.one_of(rules)
+        spare = left - 1 - sum(sizes[part] for part in parts)
+        tree = ((word, len(parts)),)
+        for part in parts:
+            below = make(part, sizes[part] + spare)
+            spare -= len(below) - sizes[part]
+            tree += below
+        return tree
+
+    start = draw.one_of(grammar[1])
+    return make(start, most) if sizes[start] is not None and sizes[start] <= most else None
+
+
+def split(book, grammar):
+    """The split grammar and the pairs for its names, kinds being told by some tree of each."""
+    found = {}
+    rules = set()
+    while True:
+        many = (len(found), len(rules))
+        for result, word, parts in grammar[2]:
+            for choice in itertools.product(*[[pair for pair in found if pair[0] == part] for part in parts]):
+                tree = ((word, len(parts)),) + tuple(symbol for pair in choice for symbol in found[pair])
+                pair = (result, kind(book, tree))
+                rules.add((pair, word, choice))
+                if pair not in found or key(tree) < key(found[pair]):
+                    found[pair] = tree
+        if (len(found), len(rules)) == many:
+            break
+    pairs = sorted(found)
+    number = {pair: k for k, pair in enumerate(pairs)}
+    rows = sorted((number[result], word, tuple(number[part] for part in parts)) for result, word, parts in rules)
+    starts = tuple(number[pair] for pair in pairs if pair[0] in grammar[1])
+    whole = (len(pairs), starts, tuple(rows))
+    kept = sorted(live_names(whole))
+    return renamed(whole, kept), tuple(pairs[k] for k in kept)
+
+
+def used_rules(grammar, tree):
+    """The numbers of the rules that tree uses, whatever start makes it, in whatever way."""
+    used = set()
+
+    def go(name, whole):
+        for k, (result, word, parts) in enumerate(grammar[2]):
+            if (result, word, len(parts)) == (name, whole[0], len(whole[1])):
+                if all(part in names_of(grammar, child) for part, child in zip(parts, whole[1])):
+                    used.add(k)
+                    for part, child in zip(parts, whole[1]):
+                        go(part, child)
+
+    for start in grammar[1]:
+        go(start, nested(tree))
+    return used
+
+
+def places_of_names(grammar, tree):
+    """All pairs (name, place) such that a start makes tree with this name making the piece at this place."""
+    found = set()
+    whole = nested(tree)
+    places = {path: place(tree, node) for node, path in enumerate(paths(whole))}
+
+    def go(name, piece, path):
+        found.add((name, places[path]))
+        for result, word, parts in grammar[2]:
+            if (result, word, len(parts)) == (name, piece[0], len(piece[1])):
+                if all(part in names_of(grammar, child) for part, child in zip(parts, piece[1])):
+                    for k, (part, child) in enumerate(zip(parts, piece[1])):
+                        go(part, child, path + (k,))
+
+    for start in grammar[1]:
+        if start in names_of(grammar, whole):
+            go(start, whole, ())
+    return found

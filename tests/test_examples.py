@@ -157,33 +157,224 @@ EXAMPLES = {
     >>> breach_of(BOLD, (2, (0, 1), ((0, "a", ()), (1, "b", ()))))
     ('single', 1)
     ''',
+    "verdictchecker": '''
+    >>> lets_verdict(BOLD, (A, FA), (B,), FFA, ("in", LONG, (("root", A, FA, 0),)))
+    'in'
+    ''',
+    "plainclasses": '''
+    >>> from stoodthere.plainclasses import plain_classes
+    >>> plain_classes(BOLD, (FA, FB))
+    (((('a', 0),), (('b', 0),)), ((('f', 1), ('a', 0)), (('f', 1), ('b', 0))))
+    ''',
+    "joinlists": '''
+    >>> from stoodthere.joinlists import joins_of
+    >>> len(joins_of(BOLD, (FA, FB)))
+    2
+    ''',
+    "closures": '''
+    >>> from stoodthere.closures import Closure
+    >>> box = Closure(BOLD)
+    >>> box.put(FA)
+    >>> box.put(FB)
+    >>> box.numbers(), box.is_same(A, B), box.takes_in(A), box.takes_in(FFA)
+    ((4, 2, 2), True, False, False)
+    >>> box.put(A)
+    >>> box.numbers(), box.is_same(B, FA), box.takes_in(FFA)
+    ((4, 1, 3), True, True)
+    ''',
+    "ways": '''
+    >>> from stoodthere.ways import way_of, needed_of
+    >>> three = (("root", A, FA, 0), ("root", A, FB, 0), ("down", FA, FB, 0))
+    >>> way_of(BOLD, (A, FA, FB), three, FA, B), way_of(BOLD, (A, FA, FB), (), FA, B)
+    ((0, 2), None)
+    >>> needed_of(BOLD, (A, FA, FB), three, 2)
+    (0, 1, 2)
+    ''',
+    "calledjoins": '''
+    >>> from stoodthere.calledjoins import classes_with, called_tree
+    >>> classes_with(BOLD, (FA,), A, FA)
+    (((('a', 0),), (('f', 1), ('a', 0))),)
+    >>> called_tree(BOLD, (FA,), FA, 1, FA)
+    (('f', 1), ('f', 1), ('a', 0))
+    >>> classes_with(DEEP, (FA,), A, FA)
+    raises NotUsable("other", -1)
+    ''',
+    "joinpapers": '''
+    >>> from stoodthere.joinpapers import join_paper, short_joins
+    >>> len(join_paper(BOLD, (A, FA), FFA)), join_paper(DEEP, (A, FA), FFA)
+    (1, None)
+    >>> short_joins(BOLD, (A, FA, FB), three, FFA)
+    (('root', (('a', 0),), (('f', 1), ('a', 0)), 0),)
+    ''',
+    "chainpapers": '''
+    >>> from stoodthere.chainpapers import chain_paper, chain_bound, joins_count
+    >>> chain_paper(BOLD, (A,), A)
+    (('given', (('a', 0),)),)
+    >>> joins_count(BOLD, (A, FA)), chain_bound(BOLD, (A, FA), 3)
+    (1, 27)
+    ''',
+    "grammartexts": '''
+    >>> grammar_text(LONG)
+    'names 1\\nstart 0\\n0 = a\\n0 = f 0'
+    ''',
+    "grammarreadings": '''
+    >>> read_grammar("names 2\\nstart 1\\n1 = f 0 0\\n0 = a")
+    (2, (1,), ((0, 'a', ()), (1, 'f', (0, 0))))
+    >>> read_grammar("names 1\\nstart 0\\n0 = f 1")
+    raises InvalidText(2, 3)
+    >>> read_grammar("names 1\\nstart 0\\n0 =")
+    raises InvalidText(2, 2)
+    ''',
+    "trims": '''
+    >>> trimmed((3, (2,), ((0, "b", ()), (1, "f", (2,)), (2, "a", ()))))
+    (1, (0,), ((0, 'a', ()),))
+    >>> plain_of((2, (0,), ((0, "f", (1,)), (1, "a", ()))))
+    (2, (1,), ((0, 'a', ()), (1, 'f', (0,))))
+    ''',
+    "runs": '''
+    >>> name_of(LONG, FFA), name_of(LONG, FB), unmade_in(LONG, FB)
+    (0, None, (0, 1))
+    ''',
+    "found": '''
+    >>> grammar_of(BOLD, (A, FA)) == LONG
+    True
+    >>> grammar_of(BOLD, (FA, FB))
+    (2, (1,), ((0, 'a', ()), (0, 'b', ()), (1, 'f', (0,))))
+    ''',
+    "maps": '''
+    >>> ONE = (1, (0,), ((0, "a", ()),))
+    >>> within_map(BOLD, ONE, LONG), within_map(BOLD, LONG, ONE)
+    ((0,), None)
+    ''',
+    "partings": '''
+    >>> parting_of(LONG, ONE), lies_within(ONE, LONG)
+    ((('f', 1), ('a', 0)), True)
+    ''',
+    "rings": '''
+    >>> pumped(FFA, 0, 1, 0), pumped(FA, 0, 1, 2) == FFA
+    ((('f', 1), ('a', 0)), True)
+    ''',
+    "ringchecker": '''
+    >>> lets_ring(LONG, (FFA, 1, 2))
+    0
+    ''',
+    "splits": '''
+    >>> split_of(DEEP, LONG)[0]
+    (2, (0, 1), ((0, 'a', ()), (1, 'f', (0,)), (1, 'f', (1,))))
+    >>> split_of(DEEP, LONG)[1]
+    ((0, ((('a', 0),),)), (0, ((('f', 1), ('_', 0)),)))
+    ''',
+    "homes": '''
+    >>> homes_of(BOLD, (2, (1,), ((0, "a", ()), (1, "f", (0,)))))
+    (((('f', 1),), ()), ((), ()))
+    ''',
+    "lessons": '''
+    >>> lessons_of(BOLD, LONG) == (A, FA), lessons_of(DEEP, LONG) == (A, FA, FFA)
+    (True, True)
+    >>> rule_lessons(BOLD, (2, (1,), ((0, "a", ()), (0, "b", ()), (1, "f", (0,))))) == (FA, FB, FA)
+    True
+    ''',
+    "verdicts": '''
+    >>> verdict_of(BOLD, (A, FA), (FB,), FFA)
+    'in'
+    >>> verdict_of(BOLD, (A, FA), (FB,), B)
+    'out'
+    >>> verdict_of(DEEP, (A, FA), (FB,), B)
+    'open'
+    >>> verdict_of(BOLD, (A, FA), (FFA,), B)
+    'odds'
+    >>> odds_of(BOLD, (A, FA), (FB, FFA))
+    (('f', 1), ('f', 1), ('a', 0))
+    >>> lets_verdict(BOLD, (A, FA), (FB,), B, verdict_paper(BOLD, (A, FA), (FB,), B))
+    'out'
+    >>> verdict_paper(BOLD, (A, FA), (FFA,), B)[:2]
+    ('odds', (('f', 1), ('f', 1), ('a', 0)))
+    ''',
+    "judging": '''
+    >>> judge = Judged(BOLD)
+    >>> judge.put(A)
+    >>> judge.put(FA)
+    >>> judge.bar(FB)
+    >>> [judge.verdict(FFA), judge.verdict(B), judge.odds(), judge.grammar()]
+    ['in', 'out', None, (1, (0,), ((0, 'a', ()), (0, 'f', (0,))))]
+    ''',
+    "quarrels": '''
+    >>> quarrel_of(BOLD, (A, FA, FB), (FFA,))
+    (((('a', 0),), (('f', 1), ('a', 0))), (('f', 1), ('f', 1), ('a', 0)))
+    ''',
+    "leans": '''
+    >>> lean_of(BOLD, (FFA, FA, A))
+    ((('f', 1), ('f', 1), ('a', 0)), (('f', 1), ('a', 0)))
+    ''',
+    "dials": '''
+    >>> boldest_of((A, FA), (FFA,))
+    1
+    >>> boldest_of((), (A,))
+    0
+    >>> boldest_of((A, FA), (B, FA)) is None
+    True
+    >>> doubt_of((A, FA), 0)
+    (('f', 1), ('f', 1), ('a', 0))
+    >>> steps_of((A,))
+    ((1, (0,), ((0, 'a', ()),)), (1, (0,), ((0, 'a', ()),)))
+    >>> steps_of(())
+    ((0, (), ()),)
+    ''',
+    "brings": '''
+    >>> brings_of(BOLD, (A, FA), B)
+    (('f', 1), ('b', 0))
+    >>> brings_of(BOLD, (A,), FA)
+    (('f', 1), ('f', 1), ('a', 0))
+    >>> brings_of(DEEP, (A,), FA) is None
+    True
+    ''',
 }
 IMPORTS = '''
+from stoodthere.brings import brings_of
 from stoodthere.chainchecker import lets_chain
+from stoodthere.dials import boldest_of, doubt_of, steps_of
 from stoodthere.fairness import breach_of
+from stoodthere.found import grammar_of
+from stoodthere.grammarreadings import read_grammar
+from stoodthere.grammartexts import grammar_text
+from stoodthere.homes import homes_of
+from stoodthere.judging import Judged
+from stoodthere.leans import lean_of
 from stoodthere.ledtrees import classes_making
+from stoodthere.lessons import lessons_of, rule_lessons
+from stoodthere.maps import within_map
 from stoodthere.orders import in_order, is_ahead, least_of
+from stoodthere.partings import lies_within, parting_of
 from stoodthere.piecelists import levels_of, pieces_of, symbols_of
 from stoodthere.pieces import ends_of, parts_of, piece_at, tree_of, with_piece
 from stoodthere.places import place_of, put_at
 from stoodthere.prices import fits, holes_of, leaves_of, price_of, shared_of
+from stoodthere.quarrels import quarrel_of
+from stoodthere.ringchecker import lets_ring
+from stoodthere.rings import pumped, ring_of
 from stoodthere.rounds import fourths_of
+from stoodthere.runs import name_of, unmade_in
+from stoodthere.splits import split_of
 from stoodthere.treechecker import lets_tree
 from stoodthere.treekinds import is_pattern, is_symbol, is_tree, is_trees, is_word
 from stoodthere.treereadings import read_pattern, read_tree
 from stoodthere.treetexts import shown
+from stoodthere.trims import plain_of, trimmed
+from stoodthere.verdictchecker import lets_verdict
+from stoodthere.verdicts import odds_of, verdict_of, verdict_paper
 '''
 
 
 def told_by(line, names):
-    """What the document writes below a line: the value, or the error that is raised; "" for a statement."""
+    """What the document writes below a line: the value, or the error that is raised; "" for a statement or None."""
     try:
         code = compile(line, "example", "eval")
     except SyntaxError:
         exec(line, names)
         return ""
     try:
-        return repr(eval(code, names))
+        value = eval(code, names)
+        return "" if value is None else repr(value)
     except ValueError as error:
         fields = ", ".join(repr(value) for value in vars(error).values())
         return f"raises {type(error).__name__}({fields})"
@@ -199,6 +390,8 @@ class TestExamples(unittest.TestCase):
             for line, wanted in zip(lines, lines[1:] + [">>>"]):
                 if line.startswith(">>> "):
                     wanted = "" if wanted.startswith(">>>") else wanted
+                    if wanted.startswith("raises "):
+                        wanted = wanted.replace('"', "'")
                     self.assertEqual(told_by(line[4:], names), wanted, (point, line))
 
 

@@ -5,66 +5,10 @@ import unittest
 from stoodthere.fairness import breach_of, is_driven, is_fair, is_plain, is_trim, name_kinds
 from tests import oracle
 from tests.checks import Checks
-from tests.samples import A, BOLD, BOOKS, DEEP, DOT, EMPTY, FA, LONG, MIX, SMALL_SYMBOLS, Draw
-from tests.samples import drawn_driven, drawn_grammar, trees_up_to
+from tests.samples import A, BOLD, BOOKS, DEEP, DOT, EMPTY, EVEN, FA, FAIR_DEEP, FOUND, LONG, MIX, ONE, SMALL_SYMBOLS
+from tests.samples import WRONG_GRAMMARS, Draw, drawn_driven, drawn_grammar, trees_up_to
 
-EVEN = (2, (0,), ((0, "a", ()), (0, "f", (1,)), (1, "f", (0,))))
-FAIR_DEEP = (2, (0, 1), ((0, "a", ()), (1, "f", (0,)), (1, "f", (1,))))
-FOUND = (2, (1,), ((0, "a", ()), (0, "b", ()), (1, "f", (0,))))
 TREES = trees_up_to(SMALL_SYMBOLS, 6)
-WRONG_GRAMMARS = (
-    None, True, 0, "", (), [], (1,), (1, (0,)), [1, (0,), ()], (1, (1,), ()), (1, (0, 0), ()), (1, [0], ()),
-    (1, (0,), []), (1, (False,), ()), (True, (0,), ()), (-1, (), ()), (1, (0,), ((0, "a", ()), (0, "a", ()))),
-    (1, (0,), ((0, "f", (0,)), (0, "a", ()))), (1, (0,), ((0, "a", (1,)),)), (1, (0,), ((0, ".", (0,)),)), A,
-    (1, (0,), ((0, "f", (0,) * 5),)), (1, (0,), ((0, "f", (True,)),)), (1, (0,), ((0, "A", ()),)),
-)
-
-
-def live_by_hand(grammar):
-    """The names that make a tree and stand in the lot: those that one start, going down such rules, comes to."""
-    made = set()
-    for _ in range(grammar[0]):
-        made |= {result for result, _, parts in grammar[2] if set(parts) <= made}
-    live = set(grammar[1]) & made
-    for _ in range(grammar[0]):
-        for result, _, parts in grammar[2]:
-            if result in live and set(parts) <= made:
-                live |= set(parts)
-    return live
-
-
-def breach_by_hand(book, grammar):
-    """The list of [36], step by step."""
-    names, starts, rules = grammar
-    live = live_by_hand(grammar)
-    for name in range(names):
-        if name not in live:
-            return ("trim", name)
-    for k, rule in enumerate(rules):
-        if any(rule[1:] == earlier[1:] for earlier in rules[:k]):
-            return ("driven", k)
-    least = oracle.least_by_names(grammar, TREES)
-    if None in least:
-        return "too long"
-    kinds = [oracle.kind(book, tree) for tree in least]
-    for k, (result, word, parts) in enumerate(rules):
-        whole = ((word, len(parts)),) + tuple(symbol for part in parts for symbol in least[part])
-        if oracle.kind(book, whole) != kinds[result]:
-            return ("kinded", k)
-    for k, rule in enumerate(rules):
-        if any(differ_in_one(rule, earlier, kinds) for earlier in rules[:k]):
-            return ("turned", k)
-    for k, start in enumerate(starts):
-        if any(kinds[start] == kinds[earlier] for earlier in starts[:k]):
-            return ("single", k)
-    return None
-
-
-def differ_in_one(rule, other, kinds):
-    if rule[:2] != other[:2] or len(rule[2]) != len(other[2]):
-        return False
-    pairs = [(one, two) for one, two in zip(rule[2], other[2]) if one != two]
-    return len(pairs) == 1 and kinds[pairs[0][0]] == kinds[pairs[0][1]]
 
 
 class TestDrivenTrimPlain(Checks, unittest.TestCase):
@@ -105,7 +49,7 @@ class TestDrivenTrimPlain(Checks, unittest.TestCase):
         for k in range(400):
             grammar = (drawn_driven if k % 2 else drawn_grammar)(draw, 1 + draw.below(3), 2 + draw.below(7))
             names, _, rules = grammar
-            trim = live_by_hand(grammar) == set(range(names))
+            trim = oracle.live_names(grammar) == set(range(names))
             driven = len({rule[1:] for rule in rules}) == len(rules)
             self.assert_same(is_trim(grammar), trim)
             self.assert_same(is_driven(grammar), driven)
@@ -222,11 +166,11 @@ class TestFair(Checks, unittest.TestCase):
             book = BOOKS[k % len(BOOKS)]
             make = drawn_grammar if k % 5 == 0 else drawn_driven
             names, starts, rules = make(draw, 1 + draw.below(4), 2 + draw.below(9))
-            live = sorted(live_by_hand((names, starts, rules)))
+            live = sorted(oracle.live_names((names, starts, rules)))
             grammar = (names, starts, rules)
             if k % 4 and live:
-                grammar = self.renamed(grammar, live)
-            wanted = breach_by_hand(book, grammar)
+                grammar = oracle.renamed(grammar, live)
+            wanted = oracle.breach(book, grammar, TREES)
             if wanted == "too long":
                 continue
             seen[wanted and wanted[0]] = seen.get(wanted and wanted[0], 0) + 1
@@ -238,22 +182,11 @@ class TestFair(Checks, unittest.TestCase):
         for word in ("trim", "driven", "kinded", "turned", "single", None):
             self.assertGreater(seen.get(word, 0), 2, seen)
 
-    def renamed(self, grammar, live):
-        """The grammar with these names alone, numbered anew."""
-        _, starts, rules = grammar
-        number = {name: k for k, name in enumerate(live)}
-        kept = [(number[result], word, tuple(number[part] for part in parts)) for result, word, parts in rules
-                if result in number and all(part in number for part in parts)]
-        return (len(live), tuple(number[start] for start in starts if start in number), tuple(sorted(kept)))
-
     def test_wrong_grammar(self):
         for thing in WRONG_GRAMMARS:
             self.assert_not_usable("grammar", name_kinds, BOLD, thing)
             self.assert_not_usable("grammar", is_fair, BOLD, thing)
             self.assert_not_usable("grammar", breach_of, BOLD, thing)
-
-
-ONE = (1, (0,), ((0, "a", ()),))
 
 
 if __name__ == "__main__":

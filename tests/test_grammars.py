@@ -7,12 +7,11 @@ from stoodthere.leasttrees import least_trees, lot_least
 from stoodthere.making import names_making, takes
 from tests import oracle
 from tests.checks import Checks
-from tests.samples import A, B, BOTH, DOT, EMPTY, FA, FFA, G, LONG, SMALL_SYMBOLS, SMALL_TREES, WIDE, WRONG_TREES, Draw
-from tests.samples import drawn_driven, drawn_grammar, trees_up_to
+from tests.samples import A, B, BOTH, DOT, EMPTY, EVEN, FA, FFA, G, LONG, SMALL_SYMBOLS, SMALL_TREES, WIDE, WRONG_TREES
+from tests.samples import Draw, drawn_driven, drawn_grammar, trees_up_to
 
 A0 = (0, "a", ())
 F00 = (0, "f", (0,))
-EVEN = (2, (0,), ((0, "a", ()), (0, "f", (1,)), (1, "f", (0,))))
 DEAD = (4, (1, 3), ((0, "a", ()), (1, "f", (0,)), (2, "f", (2,)), (3, "g", (0, 2))))
 
 

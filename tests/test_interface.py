@@ -7,8 +7,10 @@ import itertools
 import os
 import unittest
 
+from stoodthere.closures import Closure
+from stoodthere.judging import Judged
 from tests.checks import Checks
-from tests.samples import A, B, BOLD, DEEP, FA, FB, FFA, G, LONG, MIX
+from tests.samples import A, B, BOLD, DEEP, FA, FB, FFA, G, LONG, MIX, ONE
 
 AF = (("a", 0), ("f", 1))
 JOINS = (("root", FA, FB, 0),)
@@ -89,11 +91,89 @@ INTERFACE = {
         "is_fair": (("book", "grammar"), (BOLD, LONG), "grammar"),
         "breach_of": (("book", "grammar"), (DEEP, LONG), "grammar"),
     },
+    "fencechecker": {
+        "lets_fence": (("book", "inside", "outside", "thing"), (BOLD, (A, FA), (B,), LONG), "inside outside"),
+    },
+    "verdictkinds": {"is_paper_shape": (("thing",), (("in", LONG, ()),), "")},
+    "verdictchecker": {
+        "lets_verdict": (("book", "standing", "barred", "tree", "thing"), (BOLD, (A,), (B,), A, ("in", ONE, ())),
+                         "standing barred tree"),
+    },
+    "plainclasses": {"plain_classes": (("book", "sentences"), (BOLD, (FA, FB)), "sentences")},
+    "joinlists": {"joins_of": (("book", "sentences"), (BOLD, (FA, FB)), "sentences")},
+    "ways": {
+        "way_of": (("book", "given", "joins", "tree", "other"), (BOLD, (FA, FB), JOINS, FA, FB),
+                   "given joins tree other"),
+        "needed_of": (("book", "given", "joins", "number"), (BOLD, (FA, FB), JOINS, 0), "given joins number"),
+    },
+    "calledjoins": {
+        "classes_with": (("book", "sentences", "tree", "other"), (BOLD, (FA, FB), A, FB), "sentences tree other"),
+        "called_tree": (("book", "sentences", "tree", "node", "other"), (BOLD, (FA, FB), FA, 1, FB),
+                        "sentences tree node other"),
+    },
+    "joinpapers": {
+        "join_paper": (("book", "given", "tree"), (BOLD, (A, FA), FFA), "given tree"),
+        "short_joins": (("book", "given", "joins", "tree"), (BOLD, (FA, FB), JOINS, FA), "given joins tree"),
+    },
+    "chainpapers": {
+        "chain_paper": (("book", "given", "tree"), (BOLD, (A, FA), FFA), "given tree"),
+        "chain_bound": (("book", "given", "many"), (BOLD, (A, FA), 3), "given many"),
+        "joins_count": (("book", "given"), (BOLD, (A, FA)), "given"),
+    },
+    "grammartexts": {"grammar_text": (("grammar",), (LONG,), "")},
+    "grammarreadings": {"read_grammar": (("text",), ("names 1\nstart 0\n0 = a",), "text")},
+    "trims": {
+        "trimmed": (("grammar",), (LONG,), ""), "plain_of": (("driven",), (LONG,), ""),
+        "teaching_number": (("grammar",), (LONG,), ""),
+    },
+    "runs": {"name_of": (("driven", "tree"), (LONG, FA), "tree"), "unmade_in": (("driven", "tree"), (LONG, FB), "tree")},
+    "found": {"grammar_of": (("book", "sentences"), (BOLD, (A, FA)), "sentences")},
+    "maps": {"within_map": (("book", "fair", "other"), (BOLD, ONE, LONG), "fair other")},
+    "partings": {
+        "parting_of": (("driven", "other"), (LONG, ONE), "other"), "lies_within": (("driven", "other"), (ONE, LONG), "other"),
+    },
+    "rings": {
+        "ring_of": (("driven",), (LONG,), ""),
+        "pumped": (("tree", "node", "inner", "times"), (FFA, 0, 1, 3), "node inner times"),
+    },
+    "ringchecker": {"lets_ring": (("driven", "thing"), (LONG, (FFA, 1, 2)), "")},
+    "splits": {"split_of": (("book", "grammar"), (DEEP, LONG), "grammar")},
+    "homes": {"homes_of": (("book", "grammar"), (DEEP, LONG), "grammar")},
+    "lessons": {
+        "rule_lessons": (("book", "grammar"), (DEEP, LONG), "grammar"),
+        "lessons_of": (("book", "grammar"), (DEEP, LONG), "grammar"),
+    },
+    "verdicts": {
+        "verdict_of": (("book", "standing", "barred", "tree"), (BOLD, (A, FA), (FB,), FFA), "standing barred tree"),
+        "odds_of": (("book", "standing", "barred"), (BOLD, (A, FA), (FFA,)), "standing barred"),
+        "verdict_paper": (("book", "standing", "barred", "tree"), (BOLD, (A, FA), (FB,), B), "standing barred tree"),
+    },
+    "quarrels": {
+        "quarrel_of": (("book", "standing", "barred"), (BOLD, (A, FA, FB), (FFA,)), "standing barred"),
+    },
+    "leans": {"lean_of": (("book", "sentences"), (BOLD, (FFA, FA, A)), "sentences")},
+    "dials": {
+        "boldest_of": (("standing", "barred"), ((A, FA), (FFA,)), "barred"),
+        "doubt_of": (("sentences", "depth"), ((A, FA), 0), "depth"), "steps_of": (("sentences",), ((A,),), ""),
+    },
+    "brings": {"brings_of": (("book", "sentences", "tree"), (BOLD, (A, FA), B), "sentences tree")},
+}
+# For each class its file, its methods with their parameters behind the object, and those of them that are refused.
+CLASSES = {
+    Closure: ("closures", {
+        "put": ("tree",), "take": ("tree",), "take_last": (), "standing": (), "classes": (), "joins": (), "numbers": (),
+        "is_same": ("tree", "other"), "takes_in": ("tree",), "__eq__": ("other",),
+    }),
+    Judged: ("judging", {
+        "put": ("tree",), "bar": ("tree",), "take": ("tree",), "free": ("tree",), "standing": (), "barred": (),
+        "verdict": ("tree",), "paper": ("tree",), "odds": (), "grammar": (), "__eq__": ("other",),
+    }),
 }
 TRUTHS = "is_word is_symbol is_tree is_pattern is_trees is_ahead fits is_simple is_book is_led is_grammar takes".split()
-TRUTHS += "is_driven is_trim is_plain is_fair".split()
-COUNTS = "lets_tree levels_of shared_of price_of lets_book".split()
-TEXTS = "shown book_text".split()
+TRUTHS += "is_driven is_trim is_plain is_fair is_paper_shape lies_within".split()
+COUNTS = "lets_tree levels_of shared_of price_of lets_book lets_fence chain_bound joins_count teaching_number".split()
+COUNTS += "name_of lets_ring boldest_of".split()
+TEXTS = "shown book_text lets_verdict grammar_text verdict_of".split()
 
 
 class TestInterface(Checks, unittest.TestCase):
@@ -137,6 +217,16 @@ class TestInterface(Checks, unittest.TestCase):
         for _, function, _, given, _ in self.each_function():
             first = function(*given)
             self.assert_same(function(*copy.deepcopy(given)), first)
+
+    def test_classes(self):
+        for made, (file, methods) in CLASSES.items():
+            self.assertEqual(made.__module__, "stoodthere." + file)
+            self.assertEqual(tuple(inspect.signature(made).parameters), ("book",))
+            self.assertEqual(made(book=BOLD), made(BOLD))
+            for name, parameters in methods.items():
+                # Defined in the class itself, not only in a base class.
+                method = vars(made)[name]
+                self.assertEqual(tuple(inspect.signature(method).parameters)[1:], parameters)
 
     def test_wrong_parameters(self):
         for _, function, parameters, given, checked in self.each_function():

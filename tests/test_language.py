@@ -100,6 +100,37 @@ class TestLanguage(unittest.TestCase):
                 names.update(target.id for target in node.targets)
         return names
 
+    def test_all_that_is_imported_is_used(self):
+        for path, tree in self.trees.items():
+            imported = {alias.name for node in tree.body if isinstance(node, ast.ImportFrom) for alias in node.names}
+            used = {node.id for node in ast.walk(tree) if isinstance(node, ast.Name)}
+            self.assertLessEqual(imported, used, path)
+
+    def test_no_name_of_a_file_means_something_else_inside(self):
+        for path, tree in self.trees.items():
+            top = self.names_at_top(path)
+            top |= {alias.name for node in tree.body if isinstance(node, ast.ImportFrom) for alias in node.names}
+            for function in ast.walk(tree):
+                if not isinstance(function, (ast.FunctionDef, ast.Lambda)):
+                    continue
+                names = {node.arg for node in ast.walk(function.args) if isinstance(node, ast.arg)}
+                names |= {node.id for node in ast.walk(function)
+                          if isinstance(node, ast.Name) and isinstance(node.ctx, ast.Store)}
+                self.assertFalse(names & (top | set(dir(builtins))), f"{path}:{function.lineno}")
+
+    def test_no_method_has_the_name_of_an_attribute(self):
+        methods = {node.name for _, made in self.each_node(ast.ClassDef) for node in made.body
+                   if isinstance(node, ast.FunctionDef)}
+        attributes = {node.attr for _, node in self.each_node(ast.Attribute) if isinstance(node.ctx, ast.Store)}
+        self.assertEqual(methods & attributes, set())
+
+    def test_lists_where_objects_may_be_compared(self):
+        """Beside classes with __eq__ there are no generators, and no list sorts itself."""
+        for at, _ in self.each_node(ast.GeneratorExp, ast.Yield, ast.YieldFrom):
+            self.fail(at)
+        for at, node in self.each_node(ast.Attribute):
+            self.assertNotEqual(node.attr, "sort", at)
+
     def test_no_other_builtins(self):
         for at, node in self.each_node(ast.Name):
             if node.id in dir(builtins) and not at.startswith("__main__"):
