@@ -4,8 +4,8 @@ from stoodthere.basics import need, with_last
 from stoodthere.fulljoinings import closure_grammar
 from stoodthere.orders import least_of
 from stoodthere.partings import Parting
-from stoodthere.pieces import whole_of
 from stoodthere.piecelists import pieces_of
+from stoodthere.pieces import whole_of
 from stoodthere.treekinds import is_tree, is_trees
 
 
@@ -48,9 +48,11 @@ def brings_of(book, sentences, tree):
         return None
     if search.least[pair] != tree:
         return search.least[pair]
-    found = []
+    # All pairs are to be found, as the rules of each one of tree's own pieces are asked for below.
+    others = []
+    pair = search.next_apart()
     while pair is not None:
-        found.append(search.least[pair])
+        others.append(search.least[pair])
         pair = search.next_apart()
     second = second_tree(search, tree)
-    return least_of(found[1:2] if second is None else found[1:2] + [second])
+    return least_of(others if second is None else others + [second])

@@ -66,7 +66,8 @@ class ChainMaker:
         part_numbers = self.joining.part_rows[number]
         parts = [self.pieces[part] for part in part_numbers]
         # What shrinks comes first, so that no tree between is longer than the first or the last one.
-        for k in sorted(range(len(parts)), key=lambda at: len(wanted[at]) - len(self.pieces[part_numbers[at]])):
+        growths = [(len(other) - len(part), k) for k, (part, other) in enumerate(zip(parts, wanted))]
+        for _, k in sorted(growths):
             node = hub.node + 1 + sum([len(part) for part in parts[:k]])
             line = self.exchange_by(self.hubs[part_numbers[k]], line, node, parts[k], wanted[k])
             parts[k] = wanted[k]

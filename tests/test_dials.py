@@ -273,11 +273,14 @@ class TestBrings(Checks, unittest.TestCase):
 
     def test_from_another_start(self):
         """Of the two starts of the closure one makes the tree alone, the other one makes what comes behind it."""
-        h, fh, gh = (("h", 1),), (("f", 1), ("h", 1)), (("g", 1), ("h", 1))
-        given = (fh + A, gh + B, fh + C)
-        told = brings_of((("groups", (("a", 1), ("b", 1), ("c", 1)), 0),), given[:2], fh + B)
-        self.assert_same(told, gh + A)
-        self.assert_same(brings_of((("groups", (("f", 1), ("g", 2)), 0),), given[:2], h + A), None)
+        groups = (("groups", (("f", 1), ("k", 2)), 0),)
+        ka, kb = (("k", 1),) + A, (("k", 1),) + B
+        self.assert_same(brings_of(groups, (FA, kb), FB), ka)
+        self.assert_same(brings_of(groups, (FA, kb), ka), FB)
+        # f(m(b)) comes by the start of f(b), but k(a) is ahead of it; not so if k stands above m, too.
+        fma, fmb = (("f", 1), ("m", 1)) + A, (("f", 1), ("m", 1)) + B
+        self.assert_same(brings_of(groups, (FA, fma, kb), FB), ka)
+        self.assert_same(brings_of(groups, (FA, fma, (("k", 1),) + kb), FB), fmb)
 
     def test_drawn_trees(self):
         draw = Draw(305)
