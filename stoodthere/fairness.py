@@ -7,22 +7,36 @@ from stoodthere.leasttrees import least_trees
 from stoodthere.orders import order_key
 
 
-def making_names(rules):
+def making_names(grammar):
     """A dict that has the names that make a tree."""
+    # Dicts, as a value that is checked may have any number of names.
+    users = {}
+    missing = []
+    waiting = []
+    for k, (result, _, parts) in enumerate(grammar[2]):
+        different = sorted(set(parts))
+        missing.append(len(different))
+        for part in different:
+            users.setdefault(part, []).append(k)
+        if not parts:
+            waiting.append(result)
     made = {}
-    many_before = -1
-    while len(made) > many_before:
-        many_before = len(made)
-        for result, _, parts in rules:
-            if all([part in made for part in parts]):
-                made[result] = True
+    while waiting:
+        name = waiting.pop()
+        if name in made:
+            continue
+        made[name] = True
+        for k in users.get(name, []):
+            missing[k] -= 1
+            if missing[k] == 0:
+                waiting.append(grammar[2][k][0])
     return made
 
 
 def live_names(grammar):
     """A dict that has the names that make a tree and stand in the lot."""
     _, starts, rules = grammar
-    made = making_names(rules)
+    made = making_names(grammar)
     below = {name: [] for name in made}
     for result, _, parts in rules:
         if all([part in made for part in parts]):
@@ -84,26 +98,29 @@ def unlike_rule(maker, grammar, kinds):
     return None
 
 
-def unturned_rule(grammar, kinds):
-    """The number of the first rule that differs from an earlier one as no turned grammar lets it, or None."""
+def unturned_pair(grammar, kinds):
+    """The first rule that differs from an earlier one as no turned grammar lets it, or None.
+
+    Told are the numbers of the earlier rule, of this one, and of the part in which they differ.
+    """
     known = {}
     for k, (result, word, parts) in enumerate(grammar[2]):
         for at, part in enumerate(parts):
             # Rules that agree in this key differ in the part left out alone, as no rule stands twice.
             key = (result, word, parts[:at], parts[at + 1:], kinds[part])
             if key in known:
-                return k
-            known[key] = True
+                return (known[key], k, at)
+            known[key] = k
     return None
 
 
-def second_start(grammar, kinds):
-    """The number of the first start of the kind of an earlier one, or None."""
+def unsingle_pair(grammar, kinds):
+    """The numbers of the earlier start and of the first one of the kind of an earlier one, or None."""
     known = {}
     for k, start in enumerate(grammar[1]):
         if kinds[start] in known:
-            return k
-        known[kinds[start]] = True
+            return (known[kinds[start]], k)
+        known[kinds[start]] = k
     return None
 
 
@@ -118,15 +135,14 @@ def first_breach(book, grammar):
         return ("driven", repeated)
     maker = KindMaker(book)
     kinds = kinds_of_names(maker, grammar)
-    finds = (
-        ("kinded", unlike_rule(maker, grammar, kinds)),
-        ("turned", unturned_rule(grammar, kinds)),
-        ("single", second_start(grammar, kinds)),
-    )
-    for word, found in finds:
-        if found is not None:
-            return (word, found)
-    return None
+    unlike = unlike_rule(maker, grammar, kinds)
+    if unlike is not None:
+        return ("kinded", unlike)
+    unturned = unturned_pair(grammar, kinds)
+    if unturned is not None:
+        return ("turned", unturned[1])
+    unsingle = unsingle_pair(grammar, kinds)
+    return None if unsingle is None else ("single", unsingle[1])
 
 
 def breach_of(book, grammar):

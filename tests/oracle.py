@@ -498,3 +498,78 @@ def places_of_names(grammar, tree):
         if start in names_of(grammar, whole):
             go(start, whole, ())
     return found
+
+
+def does_fit_something(book, right, wrong):
+    """Whether some closed lot has all of right and none of wrong."""
+    _, classes = saturated(book, right)
+    return not any(classes.leads_to(tree) for tree in wrong)
+
+
+class PlainLearner:
+    """What a learner holds; told what [10] tells, with a generator that asks and is sent the answers."""
+
+    def __init__(self, book, known=None):
+        self.book = book
+        # Tells of a tree whether it is right, None if that has to be asked.
+        self.known = known or (lambda tree: None)
+        self.names = []
+        self.rules = {}
+        self.starts = []
+        # How many told trees had a root with a known rule while their kind had a start.
+        self.known_roots = 0
+
+    def has_start_of(self, own):
+        return any(self.names[start][0] == own for start in self.starts)
+
+    def grammar(self):
+        rules = sorted((result, word, parts) for (word, parts), result in self.rules.items())
+        return (len(self.names), tuple(sorted(self.starts)), tuple(rules))
+
+    def go_through(self, tree, whole, path):
+        """Goes through the piece at path, behind its parts; returns its name."""
+        parts = []
+        for k, child in enumerate(whole[1]):
+            parts.append((yield from self.go_through(tree, child, path + (k,))))
+        key_of_rule = (whole[0], tuple(parts))
+        if path == () and key_of_rule in self.rules and self.has_start_of(kind(self.book, tree)):
+            self.known_roots += 1
+        if key_of_rule not in self.rules:
+            self.rules[key_of_rule] = yield from self.name_for(tree, whole, path)
+        return self.rules[key_of_rule]
+
+    def name_for(self, tree, whole, path):
+        own = kind(self.book, flat(whole))
+        if path == ():
+            for start in self.starts:
+                if self.names[start][0] == own:
+                    return start
+        for name, (name_kind, name_tree, name_path) in enumerate(self.names):
+            if name_kind == own:
+                asked = flat(replaced(nested(name_tree), name_path, whole))
+                right = self.known(asked)
+                if right is None:
+                    right = yield asked
+                if right:
+                    return name
+        self.names.append((own, tree, path))
+        return len(self.names) - 1
+
+    def hear(self, tree):
+        """A generator over the questions about a told tree."""
+        name = yield from self.go_through(tree, nested(tree), ())
+        if not self.has_start_of(kind(self.book, tree)):
+            self.starts.append(name)
+
+    def hear_all(self, talk):
+        """Goes through all told trees of a learner's talk, with its answers."""
+        replies = iter([answer for word, _, answer in talk if word == "ask"])
+        for word, _, tree in talk:
+            if word == "propose" and tree is not None:
+                questions = self.hear(tree)
+                try:
+                    next(questions)
+                    while True:
+                        questions.send(next(replies))
+                except StopIteration:
+                    pass

@@ -328,6 +328,117 @@ EXAMPLES = {
     >>> brings_of(DEEP, (A,), FA) is None
     True
     ''',
+    "meets": '''
+    >>> from stoodthere.meets import met
+    >>> EVEN = (2, (0,), ((0, "a", ()), (0, "f", (1,)), (1, "f", (0,))))
+    >>> ODD = (2, (1,), ((0, "a", ()), (0, "f", (1,)), (1, "f", (0,))))
+    >>> met(LONG, EVEN)
+    (2, (0,), ((0, 'a', ()), (0, 'f', (1,)), (1, 'f', (0,))))
+    >>> met(EVEN, ODD)
+    (0, (), ())
+    >>> met(LONG, (2, (0,), ((0, "a", ()), (1, "a", ()))))
+    raises NotUsable('other', -1)
+    ''',
+    "closings": '''
+    >>> from stoodthere.closings import closing
+    >>> TWO = (2, (0, 1), ((0, "a", ()), (1, "f", (0,))))
+    >>> closing(BOLD, TWO)
+    (1, (0,), ((0, 'a', ()), (0, 'f', (0,))))
+    >>> closing(DEEP, TWO)
+    (2, (0, 1), ((0, 'a', ()), (1, 'f', (0,))))
+    ''',
+    "unions": '''
+    >>> from stoodthere.unions import united
+    >>> united(BOLD, EVEN, ODD) == LONG
+    True
+    >>> united(DEEP, (1, (0,), ((0, "b", ()),)), TWO)
+    (3, (0, 1, 2), ((0, 'a', ()), (1, 'b', ()), (2, 'f', (0,))))
+    ''',
+    "setforms": '''
+    >>> from stoodthere.setforms import by_sets
+    >>> by_sets((2, (0,), ((0, "a", ()), (0, "b", ()), (1, "b", ()))))
+    (2, (0, 1), ((0, 'a', ()), (1, 'b', ())))
+    ''',
+    "outsides": '''
+    >>> from stoodthere.outsides import outside_of, is_same_lot
+    >>> outside_of(LONG, EVEN)
+    (('f', 1), ('a', 0))
+    >>> outside_of(EVEN, LONG) is None
+    True
+    >>> is_same_lot(LONG, (2, (0, 1), EVEN[2]))
+    True
+    >>> is_same_lot(EVEN, LONG)
+    False
+    ''',
+    "canons": '''
+    >>> from stoodthere.canons import canon_of
+    >>> canon_of(BOLD, (2, (0, 1), EVEN[2]))
+    (1, (0,), ((0, 'a', ()), (0, 'f', (0,))))
+    >>> canon_of(DEEP, LONG)
+    (2, (0, 1), ((0, 'a', ()), (1, 'f', (0,)), (1, 'f', (1,))))
+    ''',
+    "closedtests": '''
+    >>> from stoodthere.closedtests import is_closed, three_and_one, chain_out
+    >>> is_closed(BOLD, TWO), is_closed(DEEP, TWO)
+    (False, True)
+    >>> three_and_one(BOLD, TWO) == (A, FA, 0, FA, 1, FFA)
+    True
+    >>> chain_out(DEEP, TWO) is None
+    True
+    >>> chain, line = chain_out(BOLD, TWO)
+    >>> chain[line][0]
+    'put'
+    ''',
+    "closeddepths": '''
+    >>> from stoodthere.closeddepths import closed_depth
+    >>> closed_depth(TWO, 1)
+    1
+    >>> closed_depth(TWO, 0) is None
+    True
+    ''',
+    "teaching": '''
+    >>> is_taught(BOLD, (FFA, FA), LONG), is_taught(BOLD, (A,), LONG)
+    (True, False)
+    >>> unused_rules(LONG, (A,)), unused_rules(LONG, ())
+    ((1,), (0, 1))
+    >>> question_bound(BOLD, LONG), question_bound(BOLD, (2, (1,), ((0, "a", ()), (1, "f", (0,)))))
+    (1, 1)
+    ''',
+    "learners": '''
+    >>> learner = Learner(BOLD, False)
+    >>> learner.told(FA)
+    >>> learner.wants()
+    ('ask', (('f', 1), ('f', 1), ('a', 0)))
+    >>> learner.told(False)
+    >>> learner.wants()
+    ('propose', (2, (1,), ((0, 'a', ()), (1, 'f', (0,)))))
+    >>> learner.told(FB)
+    >>> learner.wants()
+    ('ask', (('f', 1), ('b', 0)))
+    >>> learner.told(False)
+    raises AtOdds(False)
+    >>> learner.numbers(), learner.yeses(), learner.noes() == (FFA,)
+    ((2, 1, 2, 2, 1), (), True)
+    ''',
+    "teachers": '''
+    >>> teacher = Teacher(BOLD, LONG, (B, FFA))
+    >>> teacher.reply(("propose", (0, (), ()))) == FFA, teacher.reply(("ask", FB))
+    (True, False)
+    >>> teacher.reply(("propose", LONG)) is None
+    True
+    ''',
+    "led": '''
+    >>> pupil = Learner(BOLD, False)
+    >>> led_on(pupil, Teacher(BOLD, LONG, ())) == LONG, pupil.told_trees() == (A, FA)
+    (True, True)
+    >>> lets_talk(BOLD, False, ()), lets_talk(BOLD, False, pupil.talk())
+    (False, True)
+    ''',
+    "streams": '''
+    >>> stream = Stream(BOLD)
+    >>> stream.hear(A), stream.hear(FA), stream.hear(FFA), stream.hear(A), stream.changes()
+    (True, True, False, False, 2)
+    ''',
 }
 IMPORTS = '''
 from stoodthere.brings import brings_of
@@ -340,6 +451,8 @@ from stoodthere.grammartexts import grammar_text
 from stoodthere.homes import homes_of
 from stoodthere.judging import Judged
 from stoodthere.leans import lean_of
+from stoodthere.learners import Learner
+from stoodthere.led import led_on
 from stoodthere.ledtrees import classes_making
 from stoodthere.lessons import lessons_of, rule_lessons
 from stoodthere.maps import within_map
@@ -355,6 +468,10 @@ from stoodthere.rings import pumped, ring_of
 from stoodthere.rounds import fourths_of
 from stoodthere.runs import name_of, unmade_in
 from stoodthere.splits import split_of
+from stoodthere.streams import Stream
+from stoodthere.talkchecker import lets_talk
+from stoodthere.teachers import Teacher
+from stoodthere.teaching import is_taught, question_bound, unused_rules
 from stoodthere.treechecker import lets_tree
 from stoodthere.treekinds import is_pattern, is_symbol, is_tree, is_trees, is_word
 from stoodthere.treereadings import read_pattern, read_tree

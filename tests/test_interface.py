@@ -9,9 +9,13 @@ import unittest
 
 from stoodthere.closures import Closure
 from stoodthere.judging import Judged
+from stoodthere.learners import Learner
+from stoodthere.streams import Stream
+from stoodthere.teachers import Teacher
 from tests.checks import Checks
-from tests.samples import A, B, BOLD, DEEP, FA, FB, FFA, G, LONG, MIX, ONE
+from tests.samples import A, B, BOLD, DEEP, EMPTY, EVEN, FA, FB, FFA, G, LONG, MIX, ONE
 
+TWO = (2, (0, 1), ((0, "a", ()), (1, "f", (0,))))
 AF = (("a", 0), ("f", 1))
 JOINS = (("root", FA, FB, 0),)
 CHAIN = (("given", FA), ("given", FB), ("put", 0, 1, 0, 1, 1))
@@ -157,22 +161,52 @@ INTERFACE = {
         "doubt_of": (("sentences", "depth"), ((A, FA), 0), "depth"), "steps_of": (("sentences",), ((A,),), ""),
     },
     "brings": {"brings_of": (("book", "sentences", "tree"), (BOLD, (A, FA), B), "sentences tree")},
+    "meets": {"met": (("driven", "other"), (LONG, EVEN), "other")},
+    "closings": {"closing": (("book", "grammar"), (BOLD, TWO), "grammar")},
+    "unions": {"united": (("book", "grammar", "other"), (BOLD, TWO, ONE), "grammar other")},
+    "setforms": {"by_sets": (("grammar",), (TWO,), "")},
+    "outsides": {
+        "outside_of": (("driven", "grammar"), (LONG, EVEN), "grammar"),
+        "is_same_lot": (("grammar", "other"), (LONG, EVEN), "other"),
+    },
+    "canons": {"canon_of": (("book", "grammar"), (DEEP, LONG), "grammar")},
+    "closedtests": {
+        "is_closed": (("book", "grammar"), (BOLD, TWO), "grammar"),
+        "three_and_one": (("book", "grammar"), (BOLD, TWO), "grammar"),
+        "chain_out": (("book", "grammar"), (BOLD, TWO), "grammar"),
+    },
+    "closeddepths": {"closed_depth": (("grammar", "most"), (TWO, 3), "most")},
+    "teaching": {
+        "is_taught": (("book", "sentences", "fair"), (BOLD, (FFA, FA), LONG), "sentences fair"),
+        "unused_rules": (("driven", "sentences"), (LONG, (A,)), "sentences"),
+        "question_bound": (("book", "fair"), (BOLD, LONG), "fair"),
+    },
+    "led": {
+        "led_on": (("learner", "teacher"), (Learner(BOLD, True), Teacher(BOLD, LONG, ())), "teacher"),
+    },
+    "talkchecker": {"lets_talk": (("book", "sparing", "thing"), (BOLD, True, (("propose", EMPTY, A),)), "sparing")},
 }
-# For each class its file, its methods with their parameters behind the object, and those of them that are refused.
+# For each class its file, its parameters with good arguments for them, those of them that are refused if wrong,
+# and its methods with their parameters behind the object.
 CLASSES = {
-    Closure: ("closures", {
+    Closure: ("closures", ("book",), (BOLD,), "", {
         "put": ("tree",), "take": ("tree",), "take_last": (), "standing": (), "classes": (), "joins": (), "numbers": (),
         "is_same": ("tree", "other"), "takes_in": ("tree",), "__eq__": ("other",),
     }),
-    Judged: ("judging", {
+    Judged: ("judging", ("book",), (BOLD,), "", {
         "put": ("tree",), "bar": ("tree",), "take": ("tree",), "free": ("tree",), "standing": (), "barred": (),
         "verdict": ("tree",), "paper": ("tree",), "odds": (), "grammar": (), "__eq__": ("other",),
     }),
+    Learner: ("learners", ("book", "sparing"), (BOLD, True), "sparing", {
+        "wants": (), "told": ("answer",), "numbers": (), "told_trees": (), "yeses": (), "noes": (), "talk": (),
+    }),
+    Teacher: ("teachers", ("book", "fair", "order"), (BOLD, LONG, (A,)), "fair order", {"reply": ("want",)}),
+    Stream: ("streams", ("book",), (BOLD,), "", {"hear": ("tree",), "form": (), "heard": (), "changes": ()}),
 }
 TRUTHS = "is_word is_symbol is_tree is_pattern is_trees is_ahead fits is_simple is_book is_led is_grammar takes".split()
-TRUTHS += "is_driven is_trim is_plain is_fair is_paper_shape lies_within".split()
+TRUTHS += "is_driven is_trim is_plain is_fair is_paper_shape lies_within is_same_lot is_closed is_taught lets_talk".split()
 COUNTS = "lets_tree levels_of shared_of price_of lets_book lets_fence chain_bound joins_count teaching_number".split()
-COUNTS += "name_of lets_ring boldest_of".split()
+COUNTS += "name_of lets_ring boldest_of closed_depth question_bound".split()
 TEXTS = "shown book_text lets_verdict grammar_text verdict_of".split()
 
 
@@ -219,14 +253,20 @@ class TestInterface(Checks, unittest.TestCase):
             self.assert_same(function(*copy.deepcopy(given)), first)
 
     def test_classes(self):
-        for made, (file, methods) in CLASSES.items():
+        for made, (file, parameters, given, checked, methods) in CLASSES.items():
             self.assertEqual(made.__module__, "stoodthere." + file)
-            self.assertEqual(tuple(inspect.signature(made).parameters), ("book",))
-            self.assertEqual(made(book=BOLD), made(BOLD))
-            for name, parameters in methods.items():
+            self.assertEqual(tuple(inspect.signature(made).parameters), parameters)
+            one, two = made(*given), made(**dict(zip(parameters, given)))
+            self.assertEqual(one == two, "__eq__" in methods)
+            for name, behind in methods.items():
                 # Defined in the class itself, not only in a base class.
                 method = vars(made)[name]
-                self.assertEqual(tuple(inspect.signature(method).parameters)[1:], parameters)
+                self.assertEqual(tuple(inspect.signature(method).parameters)[1:], behind)
+            names = checked.split()
+            for many in range(1, len(names) + 1):
+                for wrong in itertools.combinations(names, many):
+                    filled = [None if other in wrong else value for other, value in zip(parameters, given)]
+                    self.assert_not_usable(wrong[0], made, *filled)
 
     def test_wrong_parameters(self):
         for _, function, parameters, given, checked in self.each_function():
