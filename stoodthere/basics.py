@@ -3,9 +3,14 @@
 from stoodthere.errors import NotUsable
 
 
+def is_integer(thing):
+    """Whether thing is an integer, and so no bool."""
+    return isinstance(thing, int) and not isinstance(thing, bool)
+
+
 def is_number(thing):
-    """Whether thing is an integer (no bool) that is at least 0."""
-    return isinstance(thing, int) and not isinstance(thing, bool) and thing >= 0
+    """Whether thing is an integer that is at least 0."""
+    return is_integer(thing) and thing >= 0
 
 
 def is_number_to(thing, most):

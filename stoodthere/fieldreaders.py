@@ -1,6 +1,7 @@
 """Reading a line of a text field by field."""
 
 from stoodthere.errors import InvalidText
+from stoodthere.treereadings import read_tree
 
 DIGITS = "0123456789"
 
@@ -16,6 +17,14 @@ def number_in(field, most):
     """The number that a field tells, or None if it tells none of at most most."""
     number = plain_number_in(field)
     return number if number is not None and number <= most else None
+
+
+def tree_in(field):
+    """The tree that a field tells, or None if it tells none."""
+    try:
+        return read_tree(field)
+    except InvalidText:
+        return None
 
 
 class FieldReader:
@@ -53,6 +62,14 @@ class FieldReader:
             self.refuse()
         self.at += 1
         return number
+
+    def read_shown(self):
+        """Reads a field that is the text of a tree; returns the tree."""
+        tree = tree_in(self.seen())
+        if tree is None:
+            self.refuse()
+        self.at += 1
+        return tree
 
     def read_end(self):
         """Sees to it that no field is left."""

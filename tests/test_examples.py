@@ -439,16 +439,113 @@ EXAMPLES = {
     >>> stream.hear(A), stream.hear(FA), stream.hear(FFA), stream.hear(A), stream.changes()
     (True, True, False, False, 2)
     ''',
+    "counts": '''
+    >>> TWO = (1, (0,), ((0, "a", ()), (0, "b", ()), (0, "g", (0, 0))))
+    >>> count_of(TWO, 3), counts_to(TWO, 5)
+    (4, (0, 2, 0, 4, 0, 16))
+    >>> lot_size(LONG), lot_size((0, (), ()))
+    (None, 0)
+    ''',
+    "numbering": '''
+    >>> GAB = (("g", 2), ("a", 0), ("b", 0))
+    >>> number_of(TWO, GAB), number_of(TWO, FA), tree_at(TWO, 1)
+    (3, None, (('b', 0),))
+    >>> tree_at((1, (0,), ((0, "a", ()),)), 1)
+    None
+    >>> ahead_count(TWO, FA), ahead_count(TWO, GAB)
+    (2, 3)
+    >>> next_tree(TWO, FA), next_tree(TWO, B) == next_tree(TWO, FB)
+    ((('g', 2), ('a', 0), ('a', 0)), True)
+    ''',
+    "holes": '''
+    >>> P = (("g", 2), ("?", 0), ("b", 0))
+    >>> least_fill(TWO, P) == GAB, fill_count(TWO, P, 5), hole_names(TWO, P)
+    (True, 4, (0,))
+    >>> least_fill(LONG, P), hole_names(LONG, P)
+    (None, ())
+    >>> hole_names(TWO, A)
+    raises NotUsable('pattern', -1)
+    ''',
+    "mending": '''
+    >>> mend_of(TWO, (("g", 2), ("f", 1), ("a", 0), ("b", 0))) == (3, GAB)
+    True
+    >>> mend_of(LONG, FFA) == (0, FFA), mend_of((0, (), ()), A)
+    (True, None)
+    ''',
+    "floorchecker": '''
+    >>> lets_floors(LONG, B, (((1, 1),), (((2, 1),),)))
+    (2, 1)
+    >>> lets_floors(LONG, B, (((2, 2),), (((2, 1),),)))
+    raises InvalidPaper('rule', 0)
+    >>> lets_floors(LONG, B, (((1, 1),), (((2, 2),),)))
+    raises InvalidPaper('floor', 0)
+    ''',
+    "readings": '''
+    >>> least_reading(TWO, ("a", "b")) == GAB, least_reading(TWO, ())
+    (True, None)
+    >>> least_reading((1, (0,), ((0, ".", ()), (0, "f", (0,)))), ())
+    (('.', 0),)
+    ''',
+    "readcounts": '''
+    >>> reading_count(TWO, ("a", "b", "a"), 5), reading_total(TWO, ("a", "b", "a"))
+    (2, 2)
+    >>> reading_total(LONG, ("a",)), reading_total(LONG, ("b",))
+    (None, 0)
+    ''',
+    "papertexts": '''
+    >>> chain_text((("given", A), ("given", FA), ("put", 1, 1, 0, 0, 1)))
+    'given a\\ngiven f(a)\\nput 1 1 0 0 1'
+    >>> joins_text((("down", FA, FB, 0),))
+    'down 0 f(a) f(b)'
+    ''',
+    "paperreadings": '''
+    >>> read_joins("up a b"), read_chain("")
+    ((('up', (('a', 0),), (('b', 0),), 0),), ())
+    >>> read_chain("given a\\nput 0 0")
+    raises InvalidText(1, 3)
+    ''',
+    "events": '''
+    >>> is_event(("put", A)), is_event(["put", A]), is_event(("book", ()))
+    (True, False, False)
+    ''',
+    "eventtexts": '''
+    >>> log_text((("put", FA), ("book", DEEP)))
+    'put f(a)\\nbook depth 1'
+    >>> read_event("book depth x")
+    raises InvalidText(0, 2)
+    ''',
+    "desk": '''
+    >>> desk = Desk(BOLD)
+    >>> desk.do_all((("put", A), ("put", FA), ("bar", FB), ("take", A)), True)
+    >>> desk.undo(1)
+    >>> desk.state() == (BOLD, (A, FA), (FB,)), len(desk.log())
+    (True, 3)
+    >>> desk.do_all((("take", A), ("take", A)), False)
+    raises InvalidEvent(('take', (('a', 0),)), 'missing')
+    >>> desk.verdict(FFA), desk.verdict(B), desk.boldest(), desk.counted(2), desk.mended(FB) == (2, FA)
+    ('in', 'out', 0, 1, True)
+    ''',
+    "journals": '''
+    >>> merged_desks(fresh_desk((BOLD, (FA,), ())), desk).state()[1] == (FA, A)
+    True
+    ''',
 }
 IMPORTS = '''
 from stoodthere.brings import brings_of
 from stoodthere.chainchecker import lets_chain
+from stoodthere.counts import count_of, counts_to, lot_size
+from stoodthere.desk import Desk
 from stoodthere.dials import boldest_of, doubt_of, steps_of
+from stoodthere.events import is_event
+from stoodthere.eventtexts import log_text, read_event
 from stoodthere.fairness import breach_of
+from stoodthere.floorchecker import lets_floors
 from stoodthere.found import grammar_of
 from stoodthere.grammarreadings import read_grammar
 from stoodthere.grammartexts import grammar_text
+from stoodthere.holes import fill_count, hole_names, least_fill
 from stoodthere.homes import homes_of
+from stoodthere.journals import fresh_desk, merged_desks
 from stoodthere.judging import Judged
 from stoodthere.leans import lean_of
 from stoodthere.learners import Learner
@@ -456,13 +553,19 @@ from stoodthere.led import led_on
 from stoodthere.ledtrees import classes_making
 from stoodthere.lessons import lessons_of, rule_lessons
 from stoodthere.maps import within_map
+from stoodthere.mending import mend_of
+from stoodthere.numbering import ahead_count, next_tree, number_of, tree_at
 from stoodthere.orders import in_order, is_ahead, least_of
+from stoodthere.paperreadings import read_chain, read_joins
+from stoodthere.papertexts import chain_text, joins_text
 from stoodthere.partings import lies_within, parting_of
 from stoodthere.piecelists import levels_of, pieces_of, symbols_of
 from stoodthere.pieces import ends_of, parts_of, piece_at, tree_of, with_piece
 from stoodthere.places import place_of, put_at
 from stoodthere.prices import fits, holes_of, leaves_of, price_of, shared_of
 from stoodthere.quarrels import quarrel_of
+from stoodthere.readcounts import reading_count, reading_total
+from stoodthere.readings import least_reading
 from stoodthere.ringchecker import lets_ring
 from stoodthere.rings import pumped, ring_of
 from stoodthere.rounds import fourths_of
@@ -506,7 +609,7 @@ class TestExamples(unittest.TestCase):
             lines = [line.strip() for line in text.strip().split("\n")]
             for line, wanted in zip(lines, lines[1:] + [">>>"]):
                 if line.startswith(">>> "):
-                    wanted = "" if wanted.startswith(">>>") else wanted
+                    wanted = "" if wanted.startswith(">>>") or wanted == "None" else wanted
                     if wanted.startswith("raises "):
                         wanted = wanted.replace('"', "'")
                     self.assertEqual(told_by(line[4:], names), wanted, (point, line))

@@ -8,6 +8,7 @@ import os
 import unittest
 
 from stoodthere.closures import Closure
+from stoodthere.desk import Desk
 from stoodthere.judging import Judged
 from stoodthere.learners import Learner
 from stoodthere.streams import Stream
@@ -17,6 +18,7 @@ from tests.samples import A, B, BOLD, DEEP, EMPTY, EVEN, FA, FB, FFA, G, LONG, M
 
 TWO = (2, (0, 1), ((0, "a", ()), (1, "f", (0,))))
 AF = (("a", 0), ("f", 1))
+HOLED = (("f", 1), ("?", 0))
 JOINS = (("root", FA, FB, 0),)
 CHAIN = (("given", FA), ("given", FB), ("put", 0, 1, 0, 1, 1))
 
@@ -185,6 +187,38 @@ INTERFACE = {
         "led_on": (("learner", "teacher"), (Learner(BOLD, True), Teacher(BOLD, LONG, ())), "teacher"),
     },
     "talkchecker": {"lets_talk": (("book", "sparing", "thing"), (BOLD, True, (("propose", EMPTY, A),)), "sparing")},
+    "counts": {
+        "count_of": (("driven", "nodes"), (LONG, 3), "nodes"), "counts_to": (("driven", "most"), (LONG, 3), "most"),
+        "lot_size": (("driven",), (ONE,), ""),
+    },
+    "numbering": {
+        "number_of": (("driven", "tree"), (LONG, FA), "tree"), "tree_at": (("driven", "number"), (LONG, 3), "number"),
+        "ahead_count": (("driven", "tree"), (LONG, FB), "tree"), "next_tree": (("driven", "tree"), (LONG, FB), "tree"),
+    },
+    "holes": {
+        "least_fill": (("driven", "pattern"), (LONG, HOLED), "pattern"),
+        "fill_count": (("driven", "pattern", "nodes"), (LONG, HOLED, 4), "pattern nodes"),
+        "hole_names": (("driven", "pattern"), (LONG, HOLED), "pattern"),
+    },
+    "mending": {"mend_of": (("driven", "tree"), (LONG, FB), "tree")},
+    "floors": {"floors_of": (("driven", "tree"), (LONG, FB), "tree")},
+    "floorchecker": {"lets_floors": (("driven", "tree", "thing"), (LONG, B, (((1, 1),), (((2, 1),),))), "tree")},
+    "readings": {"least_reading": (("driven", "words"), (LONG, ("a",)), "words")},
+    "readcounts": {
+        "reading_count": (("driven", "words", "nodes"), (LONG, ("a",), 3), "words nodes"),
+        "reading_total": (("driven", "words"), (ONE, ("a",)), "words"),
+    },
+    "papertexts": {"chain_text": (("chain",), (CHAIN,), ""), "joins_text": (("joins",), (JOINS,), "")},
+    "paperreadings": {"read_chain": (("text",), ("given a",), "text"), "read_joins": (("text",), ("up a b",), "text")},
+    "events": {"is_event": (("thing",), (("put", A),), "")},
+    "eventtexts": {
+        "event_line": (("event",), (("put", A),), ""), "log_text": (("log",), ((("put", A),),), ""),
+        "read_event": (("text",), ("put a",), "text"), "read_log": (("text",), ("put a",), "text"),
+    },
+    "journals": {
+        "replayed": (("book", "log"), (BOLD, (("put", A),)), "log"), "fresh_desk": (("state",), ((BOLD, (A,), ()),), ""),
+        "merged_desks": (("one", "two"), (Desk(BOLD), Desk(BOLD)), "two"),
+    },
 }
 # For each class its file, its parameters with good arguments for them, those of them that are refused if wrong,
 # and its methods with their parameters behind the object.
@@ -202,12 +236,26 @@ CLASSES = {
     }),
     Teacher: ("teachers", ("book", "fair", "order"), (BOLD, LONG, (A,)), "fair order", {"reply": ("want",)}),
     Stream: ("streams", ("book",), (BOLD,), "", {"hear": ("tree",), "form": (), "heard": (), "changes": ()}),
+    Desk: ("desk", ("book",), (BOLD,), "", {
+        "put": ("tree",), "bar": ("tree",), "take": ("tree",), "free": ("tree",), "change_book": ("book",), "undo": ("steps",),
+        "do_event": ("event",), "do_all": ("events", "keep"), "state": (), "log": (), "__eq__": ("other",),
+        "verdict": ("tree",), "paper": ("tree",), "grammar": (), "lessons": (), "lean": (), "quarrel": (), "boldest": (),
+        "doubt": ("depth",), "brings": ("tree",), "counted": ("nodes",), "tree_by": ("number",), "mended": ("tree",),
+        "reading": ("words",),
+    }),
 }
 TRUTHS = "is_word is_symbol is_tree is_pattern is_trees is_ahead fits is_simple is_book is_led is_grammar takes".split()
-TRUTHS += "is_driven is_trim is_plain is_fair is_paper_shape lies_within is_same_lot is_closed is_taught lets_talk".split()
+TRUTHS += "is_driven is_trim is_plain is_fair is_paper_shape lies_within is_same_lot is_closed is_taught lets_talk is_event".split()
 COUNTS = "lets_tree levels_of shared_of price_of lets_book lets_fence chain_bound joins_count teaching_number".split()
-COUNTS += "name_of lets_ring boldest_of closed_depth question_bound".split()
-TEXTS = "shown book_text lets_verdict grammar_text verdict_of".split()
+COUNTS += "name_of lets_ring boldest_of closed_depth question_bound count_of lot_size number_of ahead_count".split()
+COUNTS += "fill_count reading_count reading_total".split()
+TEXTS = "shown book_text lets_verdict grammar_text verdict_of chain_text joins_text event_line log_text".split()
+DESKS = "replayed fresh_desk merged_desks".split()
+
+
+def plainly(value):
+    """The value, a desk being told by its state and its log."""
+    return (value.state(), value.log()) if isinstance(value, Desk) else value
 
 
 class TestInterface(Checks, unittest.TestCase):
@@ -238,19 +286,20 @@ class TestInterface(Checks, unittest.TestCase):
     def test_by_position_and_by_name(self):
         for _, function, parameters, given, _ in self.each_function():
             named = dict(zip(parameters, given))
-            self.assert_same(function(*given), function(**named))
+            first = plainly(function(*given))
+            self.assert_same(plainly(function(**named)), first)
             backwards = {name: named[name] for name in reversed(parameters)}
-            self.assert_same(function(*given), function(**backwards))
+            self.assert_same(plainly(function(**backwards)), first)
 
     def test_results_are_of_their_sort(self):
         for name, function, _, given, _ in self.each_function():
             sort = bool if name in TRUTHS else int if name in COUNTS else str if name in TEXTS else tuple
-            self.assertIs(type(function(*given)), sort, name)
+            self.assertIs(type(function(*given)), Desk if name in DESKS else sort, name)
 
     def test_results_depend_on_the_arguments_alone(self):
         for _, function, _, given, _ in self.each_function():
-            first = function(*given)
-            self.assert_same(function(*copy.deepcopy(given)), first)
+            first = plainly(function(*given))
+            self.assert_same(plainly(function(*copy.deepcopy(given))), first)
 
     def test_classes(self):
         for made, (file, parameters, given, checked, methods) in CLASSES.items():
