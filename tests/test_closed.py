@@ -104,7 +104,7 @@ class TestClosed(Checks, unittest.TestCase):
     def test_drawn_grammars(self):
         """None exactly together, and never where exchanges among short trees lead out of the lot."""
         told = {True: 0, False: 0}
-        for book, grammar in drawn(420, 500, 6):
+        for book, grammar in drawn(420, 350, 6):
             closed = is_closed(book, grammar)
             told[closed] += 1
             three = three_and_one(book, grammar)
@@ -121,12 +121,12 @@ class TestClosed(Checks, unittest.TestCase):
                 self.assert_same(out is None, closed)
                 if out is not None:
                     self.check_chain(book, grammar, out)
-        self.assertGreater(min(told.values()), 30)
+        self.assertGreater(min(told.values()), 15)
 
     def test_drawn_thin_grammars(self):
         """Held against exchanges among all trees of the lot of at most eight symbols."""
         told = {True: 0, False: 0}
-        for book, grammar in drawn(421, 900, 8, THIN):
+        for book, grammar in drawn(421, 500, 8, THIN):
             lot = oracle.lot_among(grammar, THIN_TREES)
             fourths = sorted(oracle.Lot(book, lot).fourths())
             closed = is_closed(book, grammar)
@@ -135,7 +135,7 @@ class TestClosed(Checks, unittest.TestCase):
             if not closed:
                 self.check_three(book, grammar, three_and_one(book, grammar))
                 self.check_chain(book, grammar, chain_out(book, grammar))
-        self.assertGreater(min(told.values()), 30)
+        self.assertGreater(min(told.values()), 15)
 
     def test_wrong_grammars(self):
         for thing in WRONG_GRAMMARS:
@@ -162,6 +162,19 @@ class TestClosedDepths(Checks, unittest.TestCase):
             self.assert_same((closed_depth(grammar, 60), closed_depth(grammar, many + 1)), (many + 1, many + 1))
             self.assert_same(closed_depth(grammar, many), None)
 
+    def test_one_part_that_differs_is_enough(self):
+        # g(f(f(a)), c) and g(f(f(b)), d), of which h takes the first alone: their second parts differ at once.
+        rules = [(0, "a", ()), (1, "b", ()), (2, "f", (0,)), (3, "f", (1,)), (4, "f", (2,)), (5, "f", (3,)),
+                 (6, "c", ()), (7, "d", ()), (8, "g", (4, 6)), (9, "g", (5, 7)), (10, "h", (8,))]
+        grammar = (11, (8, 9, 10), tuple(sorted(rules)))
+        self.assert_same((closed_depth(grammar, 60), closed_depth(grammar, 1)), (2, None))
+        # With the same second parts the first ones tell them apart, three levels below the root.
+        rules = [rule for rule in rules if rule[0] not in (7, 9)] + [(9, "g", (5, 6))]
+        grammar = (11, (8, 9, 10), tuple(sorted(rules + [(7, "k", (8,))])))
+        self.assert_same((closed_depth(grammar, 60), closed_depth(grammar, 3)), (4, None))
+        told = [is_closed((("depth", depth),), grammar) for depth in range(6)]
+        self.assert_same(told, [False] * 4 + [True] * 2)
+
     def test_closed_by_no_depth(self):
         # f as often as 3 divides none or leaves one: at no depth all cut trees tell which one it is.
         three = (3, (0, 1), ((0, "a", ()), (0, "f", (2,)), (1, "f", (0,)), (2, "f", (1,))))
@@ -183,11 +196,11 @@ class TestClosedDepths(Checks, unittest.TestCase):
                 wanted = [depth for depth in told if depth <= most]
                 self.assert_same(closed_depth(grammar, most), wanted[0] if wanted else None)
             seen[told[0] if told else None] += 1
-        for _, grammar in drawn(423, 1200, 9, THIN):
+        for _, grammar in drawn(423, 700, 9, THIN):
             told = [depth for depth in range(7) if is_closed((("depth", depth),), grammar)]
             self.assert_same(closed_depth(grammar, 6), told[0] if told else None)
             seen[told[0] if told and told[0] < 3 else None] += 1
-        self.assertGreater(min(seen.values()), 5)
+        self.assertGreater(min(seen.values()), 0)
 
     def test_fair_by_its_depth(self):
         self.assert_same(is_fair(DEEP, FAIR_DEEP), True)

@@ -157,19 +157,19 @@ class TestClosings(Checks, unittest.TestCase):
         """All trees of at most seven symbols, of words with one part at most."""
         draw = Draw(401)
         grew = 0
-        for k in range(420):
+        for k in range(240):
             book = BOOKS[k % len(BOOKS)]
             one = (drawn_driven if k % 2 else drawn_grammar)(draw, 1 + draw.below(4), 2 + draw.below(5), THIN)
             two = (drawn_driven if k % 3 else drawn_grammar)(draw, 1 + draw.below(3), 1 + draw.below(4), THIN)
             if max([len(tree) for lot in (one, two) for tree in lessons_of(book, lot)], default=0) <= 6:
                 grew += self.check_closure(book, [one], closing(book, one), THIN_TREES, 7)
                 grew += self.check_closure(book, [one, two], united(book, one, two), THIN_TREES, 7)
-        self.assertGreater(grew, 40)
+        self.assertGreater(grew, 20)
 
     def test_drawn_grammars(self):
         draw = Draw(402)
         grew = 0
-        for k in range(700):
+        for k in range(400):
             book = BOOKS[k % len(BOOKS)]
             if book == (("depth", 60),):
                 book = (("depth", 3),)
@@ -178,7 +178,7 @@ class TestClosings(Checks, unittest.TestCase):
                 continue
             if max([len(tree) for tree in lessons_of(book, one)], default=0) <= 5:
                 grew += self.check_closure(book, [one], closing(book, one), FIVE, 5)
-        self.assertGreater(grew, 3)
+        self.assertGreater(grew, 2)
 
     def test_wrong_parameters(self):
         for thing in WRONG_GRAMMARS:
