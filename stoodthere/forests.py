@@ -40,6 +40,10 @@ class Forests:
             self.sort_keys.append(key)
         return number
 
+    def ways_of(self, key):
+        """The list of the ways of the sort with this key: none, unless a class below tells them."""
+        return []
+
     def users_of_sorts(self):
         """For each sort the pairs (sort, number of a way) of the ways that have it."""
         users = [[] for _ in self.ways]
@@ -164,11 +168,11 @@ class NameForests(Forests):
         self.rules_of = rules_by_result(driven)
         Forests.__init__(self, [(start,) for start in driven[1]])
 
-    def ways_of(self, names):
-        """The ways of a tuple of names."""
-        if len(names) == 1:
-            return [(symbols, (self.sort_of(parts),)) for symbols, parts in self.rules_of[names[0]]]
-        return [((), (self.sort_of(names[:1]), self.sort_of(names[1:])))] if names else [((), ())]
+    def ways_of(self, key):
+        """The list of the ways of a tuple of names."""
+        if len(key) == 1:
+            return [(symbols, (self.sort_of(parts),)) for symbols, parts in self.rules_of[key[0]]]
+        return [((), (self.sort_of(key[:1]), self.sort_of(key[1:])))] if key else [((), ())]
 
 
 class LeafForests(Forests):
@@ -180,7 +184,7 @@ class LeafForests(Forests):
         Forests.__init__(self, [((start,), 0, len(words)) for start in driven[1]])
 
     def ways_of(self, key):
-        """The ways of a triple; it has at least one name."""
+        """The list of the ways of a triple; it has at least one name."""
         names, first, end = key
         if len(names) > 1:
             pairs = [((names[:1], first, k), (names[1:], k, end)) for k in range(first, end + 1)]

@@ -3,8 +3,7 @@
 from stoodthere.basics import is_number, need
 from stoodthere.forests import NameForests
 from stoodthere.leasttrees import least_trees
-from stoodthere.making import names_at_nodes
-from stoodthere.meets import rules_by_symbol
+from stoodthere.making import names_at_nodes, rules_by_symbol
 from stoodthere.orders import least_of, order_key
 from stoodthere.pieces import part_nodes, whole_of
 from stoodthere.prices import holes_of
@@ -14,7 +13,7 @@ from stoodthere.treekinds import HOLE, is_pattern
 def least_fill(driven, pattern):
     """Returns the least tree of the lot that fits pattern, or None if there is none."""
     need(is_pattern(pattern), "pattern")
-    by_symbol = rules_by_symbol(driven)
+    by_symbol = rules_by_symbol(driven[2])
     rows = part_nodes(pattern)
     any_trees = {name: tree for name, tree in enumerate(least_trees(driven)) if tree is not None}
     least = [any_trees for _ in pattern]
@@ -53,7 +52,7 @@ def fill_count(driven, pattern, nodes):
     """Returns how many trees of the lot with so many symbols fit pattern."""
     need(is_pattern(pattern), "pattern")
     need(is_number(nodes), "nodes")
-    by_symbol = rules_by_symbol(driven)
+    by_symbol = rules_by_symbol(driven[2])
     rows = part_nodes(pattern)
     # The counts of all names, also of those that do not stand in the lot, as they may fill a hole of it.
     every = NameForests((driven[0], tuple(range(driven[0])), driven[2]))

@@ -4,9 +4,8 @@ from stoodthere.basics import need, with_last
 from stoodthere.errors import AtOdds, Ended, NotAsked, Taken
 from stoodthere.fulljoinings import closure_grammar
 from stoodthere.holdings import Holding, Walk
-from stoodthere.making import takes
+from stoodthere.making import first_taken, takes
 from stoodthere.treekinds import is_tree
-from stoodthere.verdicts import first_taken
 
 
 class Learner:

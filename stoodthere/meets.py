@@ -2,20 +2,13 @@
 
 from stoodthere.basics import need
 from stoodthere.fairness import is_driven_grammar
+from stoodthere.making import rules_by_symbol
 from stoodthere.trims import plain_of
-
-
-def rules_by_symbol(grammar):
-    """A dict with the list of rules for each symbol."""
-    rows = {}
-    for rule in grammar[2]:
-        rows.setdefault((rule[1], len(rule[2])), []).append(rule)
-    return rows
 
 
 def pairs_of_rules(driven, other):
     """For each rule of driven and each one of other with its symbol, a rule between pairs of names."""
-    rows = rules_by_symbol(other)
+    rows = rules_by_symbol(other[2])
     rules = []
     for result, word, parts in driven[2]:
         for other_result, _, other_parts in rows.get((word, len(parts)), []):

@@ -2,7 +2,7 @@
 
 from stoodthere.basics import need
 from stoodthere.leasttrees import least_trees
-from stoodthere.meets import rules_by_symbol
+from stoodthere.making import rules_by_symbol
 from stoodthere.orders import order_key
 from stoodthere.pieces import ends_of, part_nodes, whole_of
 from stoodthere.treekinds import is_tree
@@ -36,7 +36,7 @@ def mend_of(driven, tree):
     """Returns the least price of tree and a tree of the lot, and the least of such trees; None if the lot is empty."""
     need(is_tree(tree), "tree")
     least = least_trees(driven)
-    by_symbol = rules_by_symbol(driven)
+    by_symbol = rules_by_symbol(driven[2])
     ends = ends_of(tree)
     rows = part_nodes(tree)
     mends = [{} for _ in tree]

@@ -1,7 +1,8 @@
 """Few standing trees that quarrel with the barred ones."""
 
 from stoodthere.fulljoinings import closure_grammar
-from stoodthere.verdicts import check_sides, first_taken
+from stoodthere.making import first_taken
+from stoodthere.verdicts import check_sides
 
 
 def quarrel_of(book, standing, barred):

@@ -14,9 +14,10 @@ class SetSearch:
         for result, word, parts in grammar[2]:
             if all([part in made for part in parts]):
                 self.rows.setdefault((word, len(parts)), []).append((result, parts))
-        # For each set a dict of its names, and by its names its number.
+        # For each set a dict of its names, and by its names its number; for each name the numbers of its sets.
         self.name_sets = []
         self.numbers_by_names = {}
+        self.sets_with = {name: [] for name in made}
         self.rules = []
 
     def note(self, word, numbers, rows):
@@ -25,19 +26,27 @@ class SetSearch:
         number = self.numbers_by_names.setdefault(names, len(self.name_sets))
         if number == len(self.name_sets):
             self.name_sets.append({name: True for name in names})
+            for name in names:
+                self.sets_with[name].append(number)
         self.rules.append((number, word, numbers))
+
+    def numbers_at(self, rows, at, last):
+        """The numbers, below last, of the sets that this part may have by some of these rows."""
+        names = sorted(set([parts[at] for _, parts in rows]))
+        return sorted(set([number for name in names for number in self.sets_with[name] if number < last]))
 
     def choices_with(self, rows, many, first, newest):
         """Pairs (numbers, rows): sets for the parts, the newest one first at this one, and the rows that they leave."""
-        choices = [((), rows)]
+        begun = [row for row in rows if row[1][first] in self.name_sets[newest]]
+        choices = [((), begun)] if begun else []
         for at in range(many):
             last = newest if at < first else newest + 1
             longer = []
             for numbers, kept in choices:
-                for number in range(newest if at == first else 0, last):
+                candidates = [newest] if at == first else self.numbers_at(kept, at, last)
+                for number in candidates:
                     left = [row for row in kept if row[1][at] in self.name_sets[number]]
-                    if left:
-                        longer.append((numbers + (number,), left))
+                    longer.append((numbers + (number,), left))
             choices = longer
         return choices
 

@@ -4,16 +4,8 @@ from stoodthere.basics import need, with_last
 from stoodthere.fulljoinings import closure_grammar
 from stoodthere.found import grammar_of
 from stoodthere.joinlists import joins_of
-from stoodthere.making import takes
+from stoodthere.making import first_taken, takes
 from stoodthere.treekinds import is_tree, is_trees
-
-
-def first_taken(grammar, trees):
-    """The first one of trees that the lot of grammar has, or None."""
-    for tree in trees:
-        if takes(grammar, tree):
-            return tree
-    return None
 
 
 def judgement(book, standing, barred, tree):
