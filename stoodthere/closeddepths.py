@@ -29,28 +29,49 @@ def pairs_at_one_place(driven):
     return [(one, two) for one, two in found if one < two]
 
 
-def part_rows_of(driven):
-    """For each pair (one, two) of unlike names, one the less, the pairs of parts of their rules with one symbol."""
-    by_symbol = {}
-    for result, word, parts in driven[2]:
-        by_symbol.setdefault((word, len(parts)), []).append((result, parts))
-    rows = {}
-    for row in by_symbol.values():
-        for one, parts in row:
-            for two, other_parts in row:
-                if one < two:
-                    pairs = [(min(pair), max(pair)) for pair in zip(parts, other_parts)]
-                    rows.setdefault((one, two), []).append([pair for pair in pairs if pair[0] != pair[1]])
-    return rows
+class AlikePairs:
+    """The pairs (one, two) of unlike names, one the less, with trees that are the same if cut at some depth.
 
+    Trees are so if they have one root symbol, and their parts are so if cut one less deep. With the
+    depth pairs only get fewer, and so do the pairs of rules that show it.
+    """
 
-def still_alike(alike, part_rows):
-    """The pairs of names with trees that are the same cut one deeper than alike tells."""
-    found = {}
-    for pair in alike:
-        if any([all([part in alike for part in row]) for row in part_rows.get(pair, [])]):
-            found[pair] = True
-    return found
+    def __init__(self, driven):
+        # For each name the parts of its rules for each symbol.
+        self.part_rows = [{} for _ in range(driven[0])]
+        for result, word, parts in driven[2]:
+            self.part_rows[result].setdefault((word, len(parts)), []).append(parts)
+        # For each pair the number of the first pair of rules that may show it. Cut at 0 all trees are the same.
+        self.firsts = {(one, two): 0 for two in range(driven[0]) for one in range(two)}
+
+    def are_alike(self, one, two):
+        """Whether two names, perhaps the same one, have trees that are the same by now."""
+        return one == two or (min(one, two), max(one, two)) in self.firsts
+
+    def next_first(self, one, two):
+        """The number of the first pair of rules by which trees of the pair are the same one deeper, or None."""
+        first = self.firsts[(one, two)]
+        begin = 0
+        for symbol, rows in self.part_rows[one].items():
+            others = self.part_rows[two].get(symbol, [])
+            end = begin + len(rows) * len(others)
+            for number in range(max(first, begin), end):
+                at, other_at = divmod(number - begin, len(others))
+                if all([self.are_alike(part, other) for part, other in zip(rows[at], others[other_at])]):
+                    return number
+            begin = end
+        return None
+
+    def deepen(self):
+        """Goes one deeper; returns whether pairs got lost."""
+        kept = {}
+        for one, two in self.firsts:
+            first = self.next_first(one, two)
+            if first is not None:
+                kept[(one, two)] = first
+        has_lost = len(kept) < len(self.firsts)
+        self.firsts = kept
+        return has_lost
 
 
 def closed_depth(grammar, most):
@@ -58,14 +79,10 @@ def closed_depth(grammar, most):
     need(is_number(most), "most")
     driven = canon_by(depth_book(0), grammar)
     risky = pairs_at_one_place(driven)
-    part_rows = part_rows_of(driven)
-    # At depth 0 all trees are of one kind.
-    alike = {(one, two): True for two in range(driven[0]) for one in range(two)}
+    alike = AlikePairs(driven)
     for depth in range(most + 1):
-        if not any([pair in alike for pair in risky]):
+        if not any([alike.are_alike(one, two) for one, two in risky]):
             return depth
-        deeper = still_alike(alike, part_rows)
-        if len(deeper) == len(alike):
+        if not alike.deepen():
             return None
-        alike = deeper
     return None

@@ -164,6 +164,14 @@ class TestNumbering(Checks, unittest.TestCase):
         for number in (10 ** 128, 10 ** 128 + 1, 10 ** 199):
             self.assert_same(tree_at(last, number), None)
         self.assert_same(next_tree(last, tree_at(last, 10 ** 128 - 1)), None)
+        # Numbers of two hundred figures, written with forty leaves.
+        wide = full(40, 7)
+        for number in (10 ** 200 - 1, 10 ** 199, 3 ** 418, 40 ** 124 + 7):
+            tree = tree_at(wide, number)
+            self.assert_same((len(tree), number_of(wide, tree), ahead_count(wide, tree)), (255, number, number))
+            ranked = sorted("x" + str(k) for k in range(40))
+            figures = [ranked.index(word) for word, many in tree if many == 0]
+            self.assertEqual(sum(figure * 40 ** k for k, figure in enumerate(figures[::-1])), number)
 
     def test_there_and_back(self):
         draw = Draw(502)

@@ -111,6 +111,9 @@ class TestConsequences(Checks, unittest.TestCase):
             again = replayed(book, desk.log())
             self.assertIs(again == desk, True)
             self.assert_same((again.state(), again.log()), (desk.state(), desk.log()))
+            if k % 4 == 0:
+                trees = draw.some_of(SOME, 2)
+                self.assert_same(answers(again, trees), answers(desk, trees))
             steps = draw.below(len(desk.log()) + 1)
             desk.undo(steps)
             again.undo(steps)
