@@ -4,6 +4,7 @@ from stoodthere.bookkinds import is_book
 from stoodthere.treekinds import is_tree
 
 TREE_DEEDS = ("put", "bar", "take", "free")
+MOST_EVENTS = 300
 
 
 def is_event(thing):
@@ -17,5 +18,5 @@ def is_event(thing):
 
 
 def is_log(thing):
-    """Whether thing is a tuple of events."""
-    return isinstance(thing, tuple) and all([is_event(event) for event in thing])
+    """Whether thing is a log: a tuple of at most three hundred events."""
+    return isinstance(thing, tuple) and len(thing) <= MOST_EVENTS and all([is_event(event) for event in thing])

@@ -196,6 +196,8 @@ class TestDesk(Checks, unittest.TestCase):
         desk.undo(299)
         self.assert_same((desk.log(), desk.state()), (events[:1], (BOLD, (A,), ())))
         self.assert_same(replayed(BOLD, events).log(), events)
+        # A log has three hundred events at most.
+        self.assert_not_usable("log", replayed, BOLD, events + (("put", A),))
 
     def test_equal(self):
         desk = made(BOLD, ("put", A), ("put", FA), ("bar", B))
