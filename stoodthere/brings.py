@@ -27,9 +27,9 @@ def trees_by_rules(rules, least, piece, seconds):
 def second_tree(search, tree):
     """Which tree comes next, in order, of those of the pair of which tree is the least one; or None."""
     pair_by_tree = {search.least[pair]: pair for pair in search.least}
-    rules = {pair: [] for pair in search.least}
+    rules = {}
     for rule in search.pair_rules:
-        rules[rule[0]].append(rule)
+        rules.setdefault(rule[0], []).append(rule)
     seconds = {}
     # All pieces of a least tree are least ones, and parts come ahead of their wholes.
     for piece in pieces_of((tree,)):
@@ -48,11 +48,7 @@ def brings_of(book, sentences, tree):
         return None
     if search.least[pair] != tree:
         return search.least[pair]
-    # All pairs are to be found, as the rules of each one of tree's own pieces are asked for below.
-    others = []
-    pair = search.next_apart()
-    while pair is not None:
-        others.append(search.least[pair])
-        pair = search.next_apart()
+    other = search.next_apart()
+    # If the second tree is ahead of the least one of that pair, then all that makes it was found ahead of it, too.
     second = second_tree(search, tree)
-    return least_of(others if second is None else others + [second])
+    return least_of([found for found in (second, search.least.get(other)) if found is not None])

@@ -23,29 +23,29 @@ class Holding:
 
     def __init__(self, book):
         self.maker = KindMaker(book)
-        self.homesteads = []
+        self.name_rows = []
         self.results = {}
         self.start_by_kind = {}
 
     def names_of_kind(self, kind):
         """The names of this kind, in the sequence in which they were made."""
-        return [name for name, (own, _, _) in enumerate(self.homesteads) if own == kind]
+        return [name for name, (own, _, _) in enumerate(self.name_rows) if own == kind]
 
     def new_name(self, kind, tree, node):
         """Makes a name of this kind, with this tree and this node."""
-        self.homesteads.append((kind, tree, node))
-        return len(self.homesteads) - 1
+        self.name_rows.append((kind, tree, node))
+        return len(self.name_rows) - 1
 
     def asked_of(self, name, piece):
         """The tree of name with this piece put at its node."""
-        _, tree, node = self.homesteads[name]
+        _, tree, node = self.name_rows[name]
         return tree[:node] + piece + tree[end_of(tree, node):]
 
     def proposal(self):
         """The names, starts and rules as a plain grammar."""
         rules = [(result, word, parts) for (word, parts), result in self.results.items()]
         starts = sorted([self.start_by_kind[kind] for kind in self.start_by_kind])
-        return plain_of((len(self.homesteads), tuple(starts), tuple(sorted(rules))))
+        return plain_of((len(self.name_rows), tuple(starts), tuple(sorted(rules))))
 
 
 class Walk:

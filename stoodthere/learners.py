@@ -102,7 +102,7 @@ class Learner:
         told = len(self.told_trees())
         asked = len([word for word, _, _ in self.answers if word == "ask"])
         holding = self.holding
-        return (told, asked, len(holding.homesteads), len(holding.results), len(holding.start_by_kind))
+        return (told, asked, len(holding.name_rows), len(holding.results), len(holding.start_by_kind))
 
     def told_trees(self):
         """Returns the told trees, in sequence."""
